@@ -1,0 +1,1 @@
+"""Sheetworks: a workbook that recalculates just what it must."""

@@ -1,0 +1,56 @@
+"""Tests of the interface at the end of DOC.md: names, arguments, where each is defined."""
+
+import ast
+import importlib
+import inspect
+import pathlib
+import unittest
+
+PACKAGE = pathlib.Path(__file__).resolve().parent.parent / "sheetworks"
+
+# The functions and classes of each module that has landed, with their arguments.
+CALLS = {
+    "errors": {
+        "BadPlace": ["at"], "BadText": ["at"], "Fault": ["at"], "BadJournal": ["at"],
+        "BadName": ["name"], "BlockCut": ["sheet", "row", "column"], "NoRoom": ["word"],
+        "NothingThere": ["word"]},
+    "numbers": {
+        "half_even": ["a", "b"], "added": ["m", "n"], "subtracted": ["m", "n"],
+        "multiplied": ["m", "n"], "divided": ["m", "n"], "remainder": ["m", "n"],
+        "raised": ["m", "n"], "negated": ["m"], "floored": ["m"], "root": ["m"],
+        "shown_amount": ["m"], "read_amount": ["text"]},
+    "values": {
+        "array": ["h", "w", "members"], "height": ["v"], "width": ["v"],
+        "member": ["v", "i", "j"], "text_of": ["s"], "number_of": ["m"], "as_number": ["v"],
+        "as_text": ["v"], "as_truth": ["v"], "as_whole": ["v"], "shown": ["v"],
+        "compared": ["a", "b"], "order_key": ["v"]},
+}
+CONSTANTS = {"numbers": ["SCALE"], "values": ["ERRORS", "EMPTY"]}
+
+
+class Interface(unittest.TestCase):
+    def test_arguments(self):
+        for module, calls in CALLS.items():
+            found = importlib.import_module("sheetworks." + module)
+            for name, wanted in calls.items():
+                told = inspect.signature(getattr(found, name)).parameters
+                self.assertEqual(list(told), wanted, name)
+                for parameter in told.values():
+                    self.assertIs(parameter.default, inspect.Parameter.empty, name)
+                    self.assertIs(parameter.kind, inspect.Parameter.POSITIONAL_OR_KEYWORD, name)
+
+    def test_defined_in_its_own_file(self):
+        for module, calls in CALLS.items():
+            body = ast.parse((PACKAGE / (module + ".py")).read_text()).body
+            defined = [x.name for x in body if isinstance(x, (ast.FunctionDef, ast.ClassDef))]
+            self.assertEqual([name for name in calls if name not in defined], [], module)
+
+    def test_constants(self):
+        for module, names in CONSTANTS.items():
+            body = ast.parse((PACKAGE / (module + ".py")).read_text()).body
+            assigned = [x.targets[0].id for x in body if isinstance(x, ast.Assign)]
+            self.assertEqual([name for name in names if name not in assigned], [], module)
+
+
+if __name__ == "__main__":
+    unittest.main()

@@ -1,0 +1,105 @@
+"""Tests of those rules of LANGUAGE.md that are easily seen in the code's tree."""
+
+import ast
+import builtins
+import pathlib
+import re
+import unittest
+
+PACKAGE = pathlib.Path(__file__).resolve().parent.parent / "sheetworks"
+
+LIBRARY = {
+    "heapq": "heappush heappop heapify heapreplace heappushpop",
+    "math": "gcd lcm isqrt comb perm factorial",
+    "itertools": "product combinations permutations chain accumulate pairwise islice zip_longest",
+    "collections": "defaultdict"}
+BUILTINS = """len range enumerate zip min max sum abs sorted reversed int str bool list tuple dict
+    set isinstance ord repr any all divmod map iter next getattr hasattr setattr super property
+    staticmethod classmethod object Exception ValueError TypeError KeyError IndexError LookupError
+    ZeroDivisionError StopIteration NotImplemented""".split()
+BARRED = """float Div Global AsyncFunctionDef Await TypeAlias Import""".split()
+METHODS = """append clear copy count endswith extend find get index insert isalnum isalpha isdigit
+    islower isspace isupper items join keys ljust lower lstrip partition pop remove replace reverse
+    rfind rjust rpartition rsplit rstrip setdefault split splitlines startswith strip update upper
+    values zfill bit_length title capitalize swapcase casefold center expandtabs removeprefix
+    removesuffix rindex isascii isdecimal isnumeric istitle isidentifier isprintable translate
+    maketrans sort add discard encode""".split()
+
+
+def trees():
+    for path in sorted(PACKAGE.glob("*.py")):
+        yield path, ast.parse(path.read_text())
+
+
+def nodes(*kinds):
+    for path, tree in trees():
+        for node in ast.walk(tree):
+            if isinstance(node, kinds):
+                yield f"{path.name}:{getattr(node, 'lineno', 0)}", node
+
+
+class Language(unittest.TestCase):
+    def test_files(self):
+        names = [path.name for path in PACKAGE.iterdir() if path.name != "__pycache__"]
+        self.assertIn("__init__.py", names)
+        self.assertEqual([name for name in names if not re.fullmatch("[a-z0-9_]+[.]py", name)], [])
+
+    def test_lines(self):
+        for path in PACKAGE.glob("*.py"):
+            text = path.read_bytes().decode("ascii")
+            self.assertFalse(set(text) - {"\n"} - set(map(chr, range(32, 127))), path)
+            self.assertLessEqual(len(text.splitlines()), 399, path)
+            self.assertLessEqual(max(map(len, text.splitlines())), 120, path)
+
+    def test_functions_are_short(self):
+        for where, node in nodes(ast.FunctionDef):
+            self.assertLessEqual(node.end_lineno - node.lineno + 1, 40, where)
+
+    def test_kinds_of_code(self):
+        for where, node in nodes(ast.AST):
+            self.assertNotIn(node.__class__.__name__, BARRED, where)
+
+    def test_constants(self):
+        for where, node in nodes(ast.Constant):
+            self.assertNotIsInstance(node.value, (float, complex), where)
+            if isinstance(node.value, str):
+                self.assertNotIn("%", node.value, where)
+
+    def test_imports(self):
+        for where, node in nodes(ast.ImportFrom):
+            self.assertEqual(node.level, 0, where)
+            if node.module in LIBRARY:
+                allowed = LIBRARY[node.module].split()
+                self.assertEqual([x.name for x in node.names if x.name not in allowed], [], where)
+            else:
+                self.assertTrue(node.module.startswith("sheetworks."), where)
+                self.assertNotIn("*", [x.name for x in node.names], where)
+
+    def test_builtins(self):
+        for where, node in nodes(ast.Name):
+            if hasattr(builtins, node.id):
+                self.assertIn(node.id, BUILTINS, where)
+                self.assertIsInstance(node.ctx, ast.Load, where)
+
+    def test_names(self):
+        for where, node in nodes(ast.Name, ast.arg, ast.FunctionDef, ast.ClassDef, ast.Attribute):
+            found = [getattr(node, kind, None) for kind in ("id", "arg", "name", "attr")]
+            for name in [name for name in found if name]:
+                if name.startswith("__"):
+                    self.assertTrue(name.endswith("__"), where)
+
+    def test_methods(self):
+        own = [node.name for _, node in nodes(ast.FunctionDef)]
+        for where, node in nodes(ast.Call):
+            if isinstance(node.func, ast.Attribute):
+                self.assertIn(node.func.attr, METHODS + own, where)
+
+    def test_exponents(self):
+        for where, node in nodes(ast.BinOp):
+            if isinstance(node.op, ast.Pow):
+                self.assertIsInstance(node.right, ast.Constant, where)
+                self.assertLessEqual(node.right.value, 64, where)
+
+
+if __name__ == "__main__":
+    unittest.main()
