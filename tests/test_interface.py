@@ -24,8 +24,11 @@ CALLS = {
         "member": ["v", "i", "j"], "text_of": ["s"], "number_of": ["m"], "as_number": ["v"],
         "as_text": ["v"], "as_truth": ["v"], "as_whole": ["v"], "shown": ["v"],
         "compared": ["a", "b"], "order_key": ["v"]},
+    "tokens": {"tokens": ["text"]},
+    "trees": {"nodes": ["tree"], "depth": ["tree"], "areas": ["tree"]},
+    "writing": {"write_formula": ["tree", "sheets"]},
 }
-CONSTANTS = {"numbers": ["SCALE"], "values": ["ERRORS", "EMPTY"]}
+CONSTANTS = {"numbers": ["SCALE"], "values": ["ERRORS", "EMPTY"], "library": ["COUNTS"]}
 
 
 class Interface(unittest.TestCase):

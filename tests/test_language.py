@@ -81,6 +81,52 @@ class Language(unittest.TestCase):
                 self.assertIn(node.id, BUILTINS, where)
                 self.assertIsInstance(node.ctx, ast.Load, where)
 
+    def test_no_name_of_a_builtin(self):
+        for where, node in nodes(ast.arg, ast.FunctionDef, ast.ClassDef, ast.alias):
+            name = getattr(node, "arg", None) or node.name
+            self.assertFalse(hasattr(builtins, name) and not name.startswith("__"), where)
+
+    def test_module_level(self):
+        for path, tree in trees():
+            for node in tree.body:
+                where = f"{path.name}:{node.lineno}"
+                if isinstance(node, ast.Expr):
+                    self.assertIsInstance(node.value, ast.Constant, where)
+                else:
+                    self.assertIsInstance(node, (ast.ImportFrom, ast.FunctionDef, ast.ClassDef, ast.Assign), where)
+                if isinstance(node, ast.Assign):
+                    self.assertEqual([x.__class__ for x in node.targets], [ast.Name], where)
+                    inner = [x for x in ast.walk(node.value) if isinstance(x, (ast.List, ast.Dict))]
+                    self.assertIn(inner, ([], [node.value]), where)
+                    calls = [x for x in ast.walk(node.value) if isinstance(x, (ast.Call, ast.comprehension))]
+                    self.assertEqual(calls, [], where)
+
+    def test_names_are_bound_once(self):
+        for path, tree in trees():
+            bound = []
+            for node in tree.body:
+                if isinstance(node, ast.ImportFrom):
+                    bound.extend([x.name for x in node.names])
+                if isinstance(node, (ast.FunctionDef, ast.ClassDef)):
+                    bound.append(node.name)
+                if isinstance(node, ast.Assign):
+                    bound.append(node.targets[0].id)
+            self.assertEqual(len(bound), len(set(bound)), path)
+            imported = [x.name for node in tree.body if isinstance(node, ast.ImportFrom) for x in node.names]
+            for node in ast.walk(tree):
+                if isinstance(node, (ast.arg, ast.Name)) and not isinstance(getattr(node, "ctx", None), ast.Load):
+                    self.assertNotIn(getattr(node, "arg", None) or node.id, imported, path)
+
+    def test_files_do_not_import_in_circles(self):
+        imports = {}
+        for path, tree in trees():
+            found = [node.module for node in tree.body if isinstance(node, ast.ImportFrom)]
+            imports[path.stem] = [module.split(".")[1] for module in found if module.startswith("sheetworks.")]
+        while imports:
+            free = [name for name in imports if not [x for x in imports[name] if x in imports]]
+            self.assertNotEqual(free, [], sorted(imports))
+            imports = {name: imports[name] for name in imports if name not in free}
+
     def test_names(self):
         for where, node in nodes(ast.Name, ast.arg, ast.FunctionDef, ast.ClassDef, ast.Attribute):
             found = [getattr(node, kind, None) for kind in ("id", "arg", "name", "attr")]

@@ -1,8 +1,8 @@
-"""Tests of the capital form of [1]."""
+"""Tests of the signs of [1]: capital form, figures and letters."""
 
 import unittest
 
-from sheetworks.signs import capital
+from sheetworks.signs import LETTERS, capital, is_figure, is_letter
 
 
 class Capital(unittest.TestCase):
@@ -19,6 +19,28 @@ class Capital(unittest.TestCase):
         for text in ("\u00df", "\u00e9", "\u017f", "\u0131", "\ufb01", "\u03b1"):
             self.assertEqual(capital(text), text)
             self.assertEqual(capital("a" + text), "A" + text)
+
+
+class Kinds(unittest.TestCase):
+    FIGURES = "0123456789"
+    CAPITALS = "ABCDEFGHIJKLMNOPQRSTUVWXYZ"
+
+    def test_printable_signs(self):
+        for sign in map(chr, range(32, 127)):
+            self.assertIs(is_figure(sign), sign in self.FIGURES, sign)
+            self.assertIs(is_letter(sign), sign in self.CAPITALS + self.CAPITALS.lower(), sign)
+
+    def test_no_sign(self):
+        self.assertIs(is_figure(""), False)
+        self.assertIs(is_letter(""), False)
+
+    def test_other_scripts(self):
+        for sign in ("\u00e9", "\u03b1", "\u0663", "\u00b2"):
+            self.assertIs(is_figure(sign), False)
+            self.assertIs(is_letter(sign), False)
+
+    def test_letters(self):
+        self.assertEqual(LETTERS, self.CAPITALS)
 
 
 if __name__ == "__main__":
