@@ -9,6 +9,11 @@ def capital(text):
     return "".join([sign.upper() if "a" <= sign <= "z" else sign for sign in text])
 
 
+def small(text):
+    """The text with A to Z as small letters; other signs stay."""
+    return "".join([sign.lower() if "A" <= sign <= "Z" else sign for sign in text])
+
+
 def is_figure(sign):
     """Whether a sign is one of 0 to 9; the empty string, too, is none."""
     return "0" <= sign <= "9"

@@ -16,9 +16,14 @@ MOST_COLUMNS = 20
 EMPTY_BESIDE = {"number": ("number", 0), "text": ("text", ""), "truth": ("truth", False)}
 
 
+def fits(h, w):
+    """Whether an array may be so high and wide."""
+    return h <= MOST_ROWS and w <= MOST_COLUMNS and h * w <= MOST_MEMBERS
+
+
 def array(h, w, members):
     """The value of h rows and w columns with these members, row by row."""
-    if h > MOST_ROWS or w > MOST_COLUMNS or h * w > MOST_MEMBERS:
+    if not fits(h, w):
         return ("error", "SIZE")
     if h * w == 1:
         return members[0]

@@ -26,7 +26,15 @@ CALLS = {
         "compared": ["a", "b"], "order_key": ["v"]},
     "tokens": {"tokens": ["text"]},
     "trees": {"nodes": ["tree"], "depth": ["tree"], "areas": ["tree"]},
+    "parsing": {"read_formula": ["text", "sheets"]},
     "writing": {"write_formula": ["tree", "sheets"]},
+    "moves": {
+        "area_of": ["node", "own"], "shifted": ["tree", "down", "right"],
+        "inserted": ["tree", "own", "key", "at", "many", "is_rows"],
+        "deleted": ["tree", "own", "key", "at", "many", "is_rows"],
+        "carried": ["tree", "own", "own_after", "source", "target"], "dropped": ["tree", "key"]},
+    "arrays": {"broadcast": ["deed", "a", "b"]},
+    "evaluation": {"evaluated": ["tree", "own", "world"]},
 }
 CONSTANTS = {"numbers": ["SCALE"], "values": ["ERRORS", "EMPTY"], "library": ["COUNTS"]}
 

@@ -140,6 +140,29 @@ class Language(unittest.TestCase):
             if isinstance(node.func, ast.Attribute):
                 self.assertIn(node.func.attr, METHODS + own, where)
 
+    def test_attributes(self):
+        allowed = "count index title find get join lower upper split strip copy add".split()
+        barred = [name for kind in (str, int, list, dict, set, bytes) for name in dir(kind)] + ["args", "mro", "format"]
+        for where, node in nodes(ast.Attribute):
+            if isinstance(node.ctx, ast.Store) and node.attr not in allowed:
+                self.assertNotIn(node.attr, barred, where)
+
+    def test_names_that_are_not_used(self):
+        barred = """register mro elements open input law version_info with_traceback add_note attrgetter breakpoint
+            builtins compile copyright credits delattr dir eval exec exit gc globals help id importlib license locals
+            methodcaller os quit type vars sys""".split()
+        for where, node in nodes(ast.Name, ast.arg, ast.FunctionDef, ast.ClassDef):
+            name = getattr(node, "id", None) or getattr(node, "arg", None) or node.name
+            self.assertNotIn(name, barred, where)
+
+    def test_no_method_is_an_attribute_of_its_class(self):
+        for where, node in nodes(ast.ClassDef):
+            methods = [one.name for one in node.body if isinstance(one, ast.FunctionDef)]
+            self.assertEqual(len(methods), len(set(methods)), where)
+            stored = [one.attr for one in ast.walk(node)
+                      if isinstance(one, ast.Attribute) and isinstance(one.ctx, ast.Store)]
+            self.assertEqual([name for name in methods if name in stored], [], where)
+
     def test_exponents(self):
         for where, node in nodes(ast.BinOp):
             if isinstance(node.op, ast.Pow):
