@@ -2,7 +2,7 @@
 
 from sheetworks.applying import settled
 from sheetworks.numbers import SCALE, added, multiplied
-from sheetworks.values import (EMPTY, array, as_truth, fits, height, member, number_of, order_key,
+from sheetworks.values import (array, as_truth, fits, height, member, number_of, order_key,
                                width)
 
 WRONG = ("error", "VALUE")

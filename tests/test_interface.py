@@ -35,6 +35,27 @@ CALLS = {
         "carried": ["tree", "own", "own_after", "source", "target"], "dropped": ["tree", "key"]},
     "arrays": {"broadcast": ["deed", "a", "b"]},
     "evaluation": {"evaluated": ["tree", "own", "world"]},
+    "journals": {"replayed": ["text"], "rescued": ["text"]},
+    "states": {"saved": ["book"], "loaded": ["text"]},
+}
+# The methods of each class, with their arguments.
+AREA = ["sheet", "row", "column", "height", "width"]
+TARGET = ["to_sheet", "to_row", "to_column"]
+CLASSES = {
+    "worlds": {"World": {
+        "__init__": ["cells", "unknown", "names", "sheets"], "cell": ["key", "row", "column"],
+        "name": ["word"], "sheet": ["word"]}},
+    "book": {"Book": {
+        "__init__": ["evaluate"], "sheets": [], "put": [*AREA[:3], "text"], "text": AREA[:3],
+        "put_block": [*AREA, "text"], "block_of": AREA[:3], "define": ["name", "text"], "undefine": ["name"],
+        "names": [], "definition": ["name"], "value": AREA[:3], "shown": AREA[:3], "reads": AREA[:3],
+        "probe": ["sheet", "text"], "anew": [], "changed": [], "readers": AREA[:3], "circle": AREA[:3],
+        "clear": AREA, "copy": AREA + TARGET, "cut": AREA + TARGET, "fill_down": AREA, "fill_right": AREA,
+        "sort_rows": [*AREA, "key", "falling"], "insert_rows": ["sheet", "at", "many"],
+        "insert_columns": ["sheet", "at", "many"], "delete_rows": ["sheet", "at", "many"],
+        "delete_columns": ["sheet", "at", "many"], "add_sheet": ["at", "name"], "drop_sheet": ["at"],
+        "rename_sheet": ["at", "name"], "move_sheet": ["at", "to"], "undo": [], "redo": [], "undo_depth": [],
+        "redo_depth": [], "begin": [], "commit": [], "abort": [], "journal": []}},
 }
 CONSTANTS = {"numbers": ["SCALE"], "values": ["ERRORS", "EMPTY"], "library": ["COUNTS"]}
 
@@ -55,6 +76,20 @@ class Interface(unittest.TestCase):
             body = ast.parse((PACKAGE / (module + ".py")).read_text()).body
             defined = [x.name for x in body if isinstance(x, (ast.FunctionDef, ast.ClassDef))]
             self.assertEqual([name for name in calls if name not in defined], [], module)
+
+    def test_classes(self):
+        for module, classes in CLASSES.items():
+            body = ast.parse((PACKAGE / (module + ".py")).read_text()).body
+            found = importlib.import_module("sheetworks." + module)
+            for name, methods in classes.items():
+                [made] = [x for x in body if isinstance(x, ast.ClassDef) and x.name == name]
+                defined = [x.name for x in made.body if isinstance(x, ast.FunctionDef)]
+                self.assertEqual([method for method in methods if method not in defined], [], name)
+                for method, wanted in methods.items():
+                    told = inspect.signature(getattr(getattr(found, name), method)).parameters
+                    self.assertEqual(list(told)[1:], wanted, (name, method))
+                    defaults = {x.name: x.default for x in told.values() if x.default is not inspect.Parameter.empty}
+                    self.assertEqual(defaults, {"evaluate": None} if wanted == ["evaluate"] else {}, (name, method))
 
     def test_constants(self):
         for module, names in CONSTANTS.items():
