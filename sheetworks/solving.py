@@ -55,7 +55,9 @@ class Solution:
         self.results[place] = result
         self.read_rows[place] = reads
         for thing in reads:
-            self.reader_places.setdefault(thing, {})[place] = True
+            if thing not in self.reader_places:
+                self.reader_places[thing] = {}
+            self.reader_places[thing][place] = True
 
     def forget(self, place):
         """Forgets what a formula came to, if anything is known of it."""

@@ -41,7 +41,7 @@ class Wave:
             if self.settled:
                 self.tell_readers(self.settled.pop())
             else:
-                self.try_formula(self.ready.pop())
+                self.try_all_ready()
         self.end_in_circles()
         return list(self.anew), self.changed_cells()
 
@@ -112,6 +112,13 @@ class Wave:
         """The cells of pending formulas that a formula had read, in their sequence."""
         cells = [thing[1:] for thing in self.solution.read_rows[place] if thing[0] == "cell"]
         return [cell for cell in cells if self.content.owners.get(cell) in self.pending]
+
+    def try_all_ready(self):
+        """Evaluates the formulas that are ready, those that have waited longest first."""
+        ready = self.ready
+        self.ready = []
+        for place in ready:
+            self.try_formula(place)
 
     def try_formula(self, place):
         """Evaluates a formula that is anew; it may end at a cell that is unknown."""
