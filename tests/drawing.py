@@ -1,21 +1,18 @@
 """Drawn deeds for drawn histories."""
 
-ROWS, COLUMNS = 6, 4
-
-
 class Drawer:
     """Draws deeds for a book; most stay near its first cells, so that they meet."""
 
-    def __init__(self, draw):
+    def __init__(self, draw, rows=6, columns=4, formulas=0.6):
         self.draw = draw
-        self.word = 0
+        self.rows, self.columns, self.formulas = rows, columns, formulas
 
     def cell(self):
         draw = self.draw
         if draw.random() < 0.03:
             return "J20"
         mark = lambda: "$" if draw.random() < 0.2 else ""
-        return f"{mark()}{'ABCD'[draw.randrange(COLUMNS)]}{mark()}{1 + draw.randrange(ROWS)}"
+        return f"{mark()}{'ABCD'[draw.randrange(self.columns)]}{mark()}{1 + draw.randrange(self.rows)}"
 
     def area(self):
         draw = self.draw
@@ -51,7 +48,7 @@ class Drawer:
 
     def text(self):
         draw = self.draw
-        if draw.random() < 0.6:
+        if draw.random() < self.formulas:
             return self.formula()
         return draw.choice(["1", "2", "0", "3", "", "", "t", "TRUE", "#NA!", "'=A1", "2.5", "-1", "'", "4"])
 
@@ -64,7 +61,7 @@ class Drawer:
 
     def box(self, most=3):
         draw = self.draw
-        row, column = draw.randrange(ROWS), draw.randrange(COLUMNS)
+        row, column = draw.randrange(self.rows), draw.randrange(self.columns)
         return row, column, draw.randrange(1, most + 1), draw.randrange(1, most + 1)
 
     def deed(self, book):
@@ -73,7 +70,7 @@ class Drawer:
         many = len(book.sheets())
         sheet, other = draw.randrange(many), draw.randrange(many)
         row, column, height, width = self.box()
-        to_row, to_column = draw.randrange(ROWS), draw.randrange(COLUMNS)
+        to_row, to_column = draw.randrange(self.rows), draw.randrange(self.columns)
         way = draw.randrange(100)
         if way < 40:
             return "put", (sheet, row, column, self.text())
@@ -91,7 +88,7 @@ class Drawer:
             return "sort_rows", (sheet, row, column, height, width, draw.randrange(width), draw.random() < 0.5)
         if way < 73:
             word = draw.choice(["insert_rows", "insert_columns", "delete_rows", "delete_columns"])
-            return word, (sheet, draw.randrange(COLUMNS), draw.randrange(1, 3))
+            return word, (sheet, draw.randrange(self.columns), draw.randrange(1, 3))
         if way < 80:
             return "define", (draw.choice("XY"), self.fixed_formula())
         if way < 82:

@@ -10,19 +10,26 @@ from sheetworks.states import loaded, saved
 from tests.drawing import Drawer
 from tests.oracle import Logged, Snapshot, check_book, check_deed
 
-HISTORIES = 25
+HISTORIES = 30
 DEEDS = 40
+DENSE_HISTORIES = 10
+DENSE_DEEDS = 100
 
 
 class Histories(unittest.TestCase):
     def test_drawn_histories(self):
         for seed in range(HISTORIES):
-            self.one_history(random.Random(seed), DEEDS, f"history {seed}")
+            self.one_history(Drawer(random.Random(seed)), DEEDS, f"history {seed}")
 
-    def one_history(self, draw, many, note):
+    def test_dense_histories(self):
+        """Many formulas in few cells, so that circles come and go."""
+        for seed in range(DENSE_HISTORIES):
+            drawer = Drawer(random.Random(seed), 4, 3, 0.9)
+            self.one_history(drawer, DENSE_DEEDS, f"dense history {seed}")
+
+    def one_history(self, drawer, many, note):
         logged = Logged()
         book = Book(logged)
-        drawer = Drawer(draw)
         book.add_sheet(1, "P")
         before = Snapshot(book)
         for at in range(many):

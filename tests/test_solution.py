@@ -104,6 +104,17 @@ class Circles(Case):
         book.undo()
         self.check_values(book, J20=210)
 
+    def test_chains_to_the_right(self):
+        book = book_of(("A1", "1"), ("B1", "=A1*2"))
+        book.fill_right(0, 0, 1, 1, 9)
+        for row in range(1, 20):
+            book.put(0, row, 0, f"=J{row}-J{row}+A{row}+1")
+            book.copy(0, 0, 1, 1, 9, 0, row, 1)
+        self.check_values(book, J1=512, J2=1024, J20=512 * 20)
+        book.put(0, 0, 0, "0")
+        self.check_values(book, J1=0, J20=512 * 19)
+        self.assertEqual(len(book.anew()), 199)
+
     def test_a_chain_over_all_cells(self):
         logged = Logged()
         book = Book(logged)
