@@ -56,7 +56,8 @@ class Drawer:
         draw = self.draw
         cell = f"${draw.choice('ABCD')}${draw.randrange(1, 7)}"
         sheet = draw.choice(["MAIN", "P", "Q"])
-        return draw.choice([f"={sheet}!{cell}", f"={sheet}!{cell}+1", "=1", "=LAMBDA(Z,Z+1)", f"=LAMBDA(Z,Z+{sheet}!{cell})",
+        return draw.choice([f"={sheet}!{cell}", f"={sheet}!{cell}+1", "=1", "=LAMBDA(Z,Z+1)",
+            f"=LAMBDA(Z,Z+{sheet}!{cell})",
                             f"=SUM({sheet}!$A$1:{cell})", "=Y", "=X"])
 
     def box(self, most=3):

@@ -14,9 +14,14 @@ from sheetworks.writing import write_formula
 from tests.helping import TOP, Told
 
 SHEETS = ((0, "MAIN"), (7, "PLAN"))
-PARTS = ["0", "1", "2", "3", "-1", "0.5", "1.5", "21", "64", "999999999999999", "TRUE", "FALSE", '""', '"a"', '"2"', '" b "', '"A1"', '"main!B2"', '"A1:B3"', '"1:2"', '">1"', '"true"', "#NA!", "#REF!", "#LIMIT!",
-         "A1", "B2", "C3", "J20", "A1:B3", "B1:B5", "A2:D2", "A:A", "A:J", "1:1", "1:20", "PLAN!A1", "PLAN!A1:C3", "{1,2}", "{1;2}", "{1,2;3,4}", "{3,1,2}", '{"a";"b";"a"}', "{TRUE,#NA!,1}", "{1,2,3,4,5,6,7,8,9,10,11,12,13,14,15,16,17,18,19,20}",
-         "LAMBDA(x,x)", "LAMBDA(x,y,x+y)", "LAMBDA(1)", "LAMBDA(x,A1:B2)", "LAMBDA(x,{1,2})", "F", "X", "R", "NOPE", "", "SEQUENCE(3)", "SEQUENCE(2,3)", "A1+1", "B1:B3*2", "1/0", '"' + "x" * 64 + '"', "SEQUENCE(16,4)", "A20:J20", "IF(1,)"]
+PARTS = ["0", "1", "2", "3", "-1", "0.5", "1.5", "21", "64", "999999999999999", "TRUE", "FALSE", '""', '"a"', '"2"',
+         '" b "', '"A1"', '"main!B2"', '"A1:B3"', '"1:2"', '">1"', '"true"', "#NA!", "#REF!", "#LIMIT!",
+         "A1", "B2", "C3", "J20", "A1:B3", "B1:B5", "A2:D2", "A:A", "A:J", "1:1", "1:20", "PLAN!A1", "PLAN!A1:C3",
+         "{1,2}", "{1;2}", "{1,2;3,4}", "{3,1,2}", '{"a";"b";"a"}', "{TRUE,#NA!,1}",
+         "{1,2,3,4,5,6,7,8,9,10,11,12,13,14,15,16,17,18,19,20}",
+         "LAMBDA(x,x)", "LAMBDA(x,y,x+y)", "LAMBDA(1)", "LAMBDA(x,A1:B2)", "LAMBDA(x,{1,2})", "F", "X", "R", "NOPE",
+         "", "SEQUENCE(3)", "SEQUENCE(2,3)", "A1+1", "B1:B3*2", "1/0", '"' + "x" * 64 + '"', "SEQUENCE(16,4)",
+         "A20:J20", "IF(1,)"]
 
 
 class Formulas:
@@ -39,9 +44,13 @@ class Formulas:
         if many == 1 and parts[0] == "":
             parts = ["1"]
         if word in ("MAP", "REDUCE", "SCAN", "MAKEARRAY", "BYROW", "BYCOL") and draw.random() < 0.8:
-            names = "pqrst"[:max(many - 1, 1) if word == "MAP" else 2 if word in ("REDUCE", "SCAN", "MAKEARRAY") else 1]
-            parts[-1] = f"LAMBDA({','.join(names)},{draw.choice([names[0], '&'.join(names), 'SUM(' + names[0] + ')', self.part(0)])})"
+            words = {"MAP": many - 1, "BYROW": 1, "BYCOL": 1}.get(word, 2)
+            parts[-1] = self.function("pqrst"[:words])
         return f"{word}({','.join(parts)})"
+
+    def function(self, words):
+        body = self.draw.choice([words[0], "&".join(words), f"SUM({words[0]})", self.part(0)])
+        return f"LAMBDA({','.join(words)},{body})"
 
     def formula(self):
         draw = self.draw
@@ -65,8 +74,11 @@ class Formulas:
 
     def world(self):
         draw = self.draw
-        scalars = [("number", n * SCALE) for n in (0, 1, 2, 3, -1, 5)] + [("number", TOP), ("number", -TOP), ("number", 500000), ("text", ""), ("text", "a"), ("text", "2"), ("text", "x" * 64), ("truth", True), ("truth", False), ("error", "NA"), ("error", "DIV"), ("empty",)]
-        cells = {(key, i, j): draw.choice(scalars[:8] if draw.random() < 0.6 else scalars) for key in (0, 7) for i in range(7) for j in range(5)}
+        scalars = [("number", n * SCALE) for n in (0, 1, 2, 3, -1, 5)] + [("number", TOP), ("number", -TOP),
+            ("number", 500000), ("text", ""), ("text", "a"), ("text", "2"), ("text", "x" * 64), ("truth", True),
+            ("truth", False), ("error", "NA"), ("error", "DIV"), ("empty",)]
+        cells = {(key, i, j): draw.choice(scalars[:8] if draw.random() < 0.6 else scalars) for key in (0,
+            7) for i in range(7) for j in range(5)}
         names = {"F": "=LAMBDA(z,z*2)", "X": "=5", "R": "=MAIN!$A$1:$B$3"}
         return Told(cells, (), {word: read_formula(text, SHEETS) for word, text in names.items()})
 
@@ -86,7 +98,8 @@ def is_value(v):
     if v[0] != "array":
         return is_scalar(v)
     _, h, w, members = v
-    return 1 <= h <= 20 and 1 <= w <= 20 and 2 <= h * w <= 64 and isinstance(members, tuple) and len(members) == h * w and all(map(is_scalar, members))
+    return 1 <= h <= 20 and 1 <= w <= 20 and 2 <= h * w <= 64 and isinstance(members,
+        tuple) and len(members) == h * w and all(map(is_scalar, members))
 
 
 class AnyFormula(unittest.TestCase):
@@ -116,7 +129,8 @@ class AnyFormula(unittest.TestCase):
         drawn = Formulas(8)
         for _ in range(400):
             tree = drawn.tree()
-            for other in (shifted(tree, 1, -1), inserted(tree, 0, 0, 1, 2, True), deleted(tree, 0, 7, 0, 2, False), carried(tree, 0, 7, (0, 0, 0, 2, 2), (7, 1, 1, 3, 3)), dropped(tree, 7)):
+            for other in (shifted(tree, 1, -1), inserted(tree, 0, 0, 1, 2, True), deleted(tree, 0, 7, 0, 2, False),
+                carried(tree, 0, 7, (0, 0, 0, 2, 2), (7, 1, 1, 3, 3)), dropped(tree, 7)):
                 self.assertEqual(read_formula(write_formula(other, SHEETS), SHEETS), other)
                 self.assertEqual((nodes(other), depth(other)), (nodes(tree), depth(tree)))
 

@@ -66,7 +66,8 @@ class Broadcast(unittest.TestCase):
         for a, b, wanted in ((div, number(1), div), (number(1), ref, ref), (div, ref, div), (ref, div, ref),
                              (number(1), number(2), number(5)), (("empty",), ("truth", True), number(5))):
             self.assertEqual(broadcast(five, a, b), wanted)
-        self.assertEqual(broadcast(five, value([["#DIV", 1, 2]]), value([[1, "#REF", 2]])), value([["#DIV", "#REF", 5]]))
+        self.assertEqual(broadcast(five, value([["#DIV", 1, 2]]), value([[1, "#REF", 2]])),
+            value([["#DIV", "#REF", 5]]))
         # A missing member goes ahead of an error on the other side.
         self.assertEqual(broadcast(five, value([[1, 2], ["#DIV", "#REF"], [3, "#DIV"]]), value([[1, 1], [1, 1]])),
                          ("array", 3, 2, (number(5), number(5), div, ref, lack, lack)))

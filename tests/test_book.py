@@ -41,7 +41,8 @@ class Case(unittest.TestCase):
         """A call that raises changes nothing."""
         state = (saved(book), book.journal(), book.anew(), book.changed(), book.undo_depth(), book.redo_depth())
         self.assertEqual(refusal(getattr(book, deed), *arguments), wanted, (deed, arguments))
-        self.assertEqual((saved(book), book.journal(), book.anew(), book.changed(), book.undo_depth(), book.redo_depth()), state)
+        self.assertEqual((saved(book), book.journal(), book.anew(), book.changed(), book.undo_depth(),
+            book.redo_depth()), state)
 
 
 class NewBooks(Case):
@@ -58,10 +59,15 @@ class NewBooks(Case):
 
     def test_results_of_deeds(self):
         book = Book()
-        for word, arguments in (("put", (0, 0, 0, "1")), ("put_block", (0, 1, 1, 2, 2, "=1")), ("define", ("X", "=1")), ("undefine", ("X",)), ("clear", (0, 0, 0, 3, 3)),
-                                ("copy", (0, 0, 0, 1, 1, 0, 1, 1)), ("cut", (0, 0, 0, 1, 1, 0, 1, 1)), ("fill_down", (0, 0, 0, 2, 2)), ("fill_right", (0, 0, 0, 2, 2)), ("sort_rows", (0, 0, 0, 2, 2, 0, False)),
-                                ("insert_rows", (0, 0, 1)), ("insert_columns", (0, 0, 1)), ("delete_rows", (0, 0, 1)), ("delete_columns", (0, 0, 1)), ("add_sheet", (0, "P")), ("rename_sheet", (0, "Q")),
-                                ("move_sheet", (0, 1)), ("drop_sheet", (1,)), ("begin", ()), ("commit", ()), ("begin", ()), ("abort", ())):
+        for word, arguments in (("put", (0, 0, 0, "1")), ("put_block", (0, 1, 1, 2, 2, "=1")),
+                                ("define", ("X", "=1")), ("undefine", ("X",)), ("clear", (0, 0, 0, 3, 3)),
+                                ("copy", (0, 0, 0, 1, 1, 0, 1, 1)), ("cut", (0, 0, 0, 1, 1, 0, 1, 1)),
+                                ("fill_down", (0, 0, 0, 2, 2)), ("fill_right", (0, 0, 0, 2, 2)),
+                                ("sort_rows", (0, 0, 0, 2, 2, 0, False)),
+                                ("insert_rows", (0, 0, 1)), ("insert_columns", (0, 0, 1)), ("delete_rows", (0, 0, 1)),
+                                ("delete_columns", (0, 0, 1)), ("add_sheet", (0, "P")), ("rename_sheet", (0, "Q")),
+                                ("move_sheet", (0, 1)), ("drop_sheet", (1,)), ("begin", ()), ("commit", ()),
+                                ("begin", ()), ("abort", ())):
             self.assertIsNone(getattr(book, word)(*arguments), word)
         self.assertIs(book.undo(), True)
         self.assertIs(book.redo(), True)
@@ -104,12 +110,29 @@ class NewBooks(Case):
 
 class Putting(Case):
     def test_kinds(self):
-        for text, value, told in (("", ("empty",), ""), ("12", number(12), "12"), (" 1.50 ", ("number", 1500000), "1.5"), ("-3", number(-3), "-3"), ("+3", number(3), "3"), ("true", ("truth", True), "TRUE"), ("FALSE", ("truth", False), "FALSE"),
-                                  ("#na!", ("error", "NA"), "#NA!"), ("#LIMIT!", ("error", "LIMIT"), "#LIMIT!"), ("#CIRC!", ("text", "#CIRC!"), "#CIRC!"), ("#circ!", ("text", "#circ!"), "#circ!"), ("abc", ("text", "abc"), "abc"), ("=", ("text", "="), "="),
-                                  ("'", ("text", ""), "'"), ("'12", ("text", "12"), "'12"), ("'abc", ("text", "abc"), "abc"), ("'=1", ("text", "=1"), "'=1"), ("'=", ("text", "="), "="), ("''", ("text", "'"), "''"), ("'TRUE", ("text", "TRUE"), "'TRUE"), ("'#NA!", ("text", "#NA!"), "'#NA!"),
-                                  ("'#CIRC!", ("text", "#CIRC!"), "#CIRC!"), ("' ", ("text", " "), " "), (" ", ("text", " "), " "), ("' 1 ", ("text", " 1 "), "' 1 "), ("1 2", ("text", "1 2"), "1 2"), (" TRUE", ("text", " TRUE"), " TRUE"), ("''a", ("text", "'a"), "''a"), (" =1", ("text", " =1"), " =1"),
-                                  ("#FOO!", ("text", "#FOO!"), "#FOO!"), ("#!", ("text", "#!"), "#!"), ("#NA", ("text", "#NA"), "#NA"), ("'=1+", ("text", "=1+"), "'=1+"), ("=1+1", number(2), "=1+1"), ("= sum( 1 ,2)", number(3), "=SUM(1,2)"), ("1234567890123456", ("text", "1234567890123456"), "1234567890123456"),
-                                  ("\"x\"", ("text", "\"x\""), "\"x\""), ("=\"a\"", ("text", "a"), "=\"a\""), ("=J9", number(0), "=J9"), ("={1,2}", number(1), "={1,2}"), ("#REF!", ("error", "REF"), "#REF!"), ("=#REF!", ("error", "REF"), "=#REF!"), ("0.0000001", number(0), "0")):
+        for text, value, told in (("", ("empty",), ""), ("12", number(12), "12"),
+                                  (" 1.50 ", ("number", 1500000), "1.5"), ("-3", number(-3), "-3"),
+                                  ("+3", number(3), "3"),
+                                  ("true", ("truth", True), "TRUE"), ("FALSE", ("truth", False), "FALSE"),
+                                  ("#na!", ("error", "NA"), "#NA!"), ("#LIMIT!", ("error", "LIMIT"), "#LIMIT!"),
+                                  ("#CIRC!", ("text", "#CIRC!"), "#CIRC!"), ("#circ!", ("text", "#circ!"), "#circ!"),
+                                  ("abc", ("text", "abc"), "abc"), ("=", ("text", "="), "="),
+                                  ("'", ("text", ""), "'"), ("'12", ("text", "12"), "'12"),
+                                  ("'abc", ("text", "abc"), "abc"), ("'=1", ("text", "=1"), "'=1"),
+                                  ("'=", ("text", "="), "="), ("''", ("text", "'"), "''"),
+                                  ("'TRUE", ("text", "TRUE"), "'TRUE"), ("'#NA!", ("text", "#NA!"), "'#NA!"),
+                                  ("'#CIRC!", ("text", "#CIRC!"), "#CIRC!"), ("' ", ("text", " "), " "),
+                                  (" ", ("text", " "), " "), ("' 1 ", ("text", " 1 "), "' 1 "),
+                                  ("1 2", ("text", "1 2"), "1 2"), (" TRUE", ("text", " TRUE"), " TRUE"),
+                                  ("''a", ("text", "'a"), "''a"), (" =1", ("text", " =1"), " =1"),
+                                  ("#FOO!", ("text", "#FOO!"), "#FOO!"), ("#!", ("text", "#!"), "#!"),
+                                  ("#NA", ("text", "#NA"), "#NA"), ("'=1+", ("text", "=1+"), "'=1+"),
+                                  ("=1+1", number(2), "=1+1"), ("= sum( 1 ,2)", number(3), "=SUM(1,2)"),
+                                  ("1234567890123456", ("text", "1234567890123456"), "1234567890123456"),
+                                  ("\"x\"", ("text", "\"x\""), "\"x\""), ("=\"a\"", ("text", "a"), "=\"a\""),
+                                  ("=J9", number(0), "=J9"), ("={1,2}", number(1), "={1,2}"),
+                                  ("#REF!", ("error", "REF"), "#REF!"), ("=#REF!", ("error", "REF"), "=#REF!"),
+                                  ("0.0000001", number(0), "0")):
             book = book_of(("B2", text))
             self.assertEqual(book.value(0, 1, 1), value, text)
             self.assertEqual(book.text(0, 1, 1), told, text)
@@ -118,9 +141,18 @@ class Putting(Case):
 
     def test_signs_and_lengths(self):
         book = book_of(("A1", "7"))
-        for text, wanted in (("a\n", (BadText, 1)), ("a%", (BadText, 1)), ("%", (BadText, 0)), ("\u00e4", (BadText, 0)), ("=1+\t", (BadText, 3)), ("x" * 65, (BadText, 64)), ("x" * 96, (BadText, 64)), ("x" * 97, (BadText, 96)), ("x" * 95 + "%", (BadText, 95)), ("x" * 96 + "%", (BadText, 96)),
-                             ("x" * 97 + "%", (BadText, 96)), ("'" + "x" * 65, (BadText, 65)), ("'" + "x" * 96, (BadText, 96)), ("=" + "1" * 96, (BadText, 96)), ("=1+", (Fault, 3)), ("=" + "(" * 95, (Fault, 17)), ("=1%", (BadText, 2)), ("=FOO!A1", (Fault, 1)), ("=1 2", (Fault, 3)), ("=\"" + "x" * 65 + "\"", (Fault, 1)),
-                             ("'%", (BadText, 1)), ("\x7f", (BadText, 0)), ("=1+1+" + "+" * 20, (Fault, 21)), ("9" * 65, (BadText, 64)), (" " * 65, (BadText, 64)), ("=" + "-" * 16 + "1", (Fault, 0))):
+        for text, wanted in (("a\n", (BadText, 1)), ("a%", (BadText, 1)), ("%", (BadText, 0)),
+                             ("\u00e4", (BadText, 0)), ("=1+\t", (BadText, 3)), ("x" * 65, (BadText, 64)),
+                             ("x" * 96, (BadText, 64)),
+                             ("x" * 97, (BadText, 96)), ("x" * 95 + "%", (BadText, 95)),
+                             ("x" * 96 + "%", (BadText, 96)),
+                             ("x" * 97 + "%", (BadText, 96)), ("'" + "x" * 65, (BadText, 65)),
+                             ("'" + "x" * 96, (BadText, 96)), ("=" + "1" * 96, (BadText, 96)), ("=1+", (Fault, 3)),
+                             ("=" + "(" * 95, (Fault, 17)), ("=1%", (BadText, 2)), ("=FOO!A1", (Fault, 1)),
+                             ("=1 2", (Fault, 3)), ("=\"" + "x" * 65 + "\"", (Fault, 1)),
+                             ("'%", (BadText, 1)), ("\x7f", (BadText, 0)), ("=1+1+" + "+" * 20, (Fault, 21)),
+                             ("9" * 65, (BadText, 64)), (" " * 65, (BadText, 64)),
+                             ("=" + "-" * 16 + "1", (Fault, 0))):
             self.check_refused(book, "put", (0, 0, 0, text), wanted)
         for text in ("x" * 64, "'" + "x" * 64, "=" + "1+" * 10 + "1" + " " * 74, " " * 95 + "1", "~", " "):
             book.put(0, 0, 0, text)
@@ -136,14 +168,18 @@ class Putting(Case):
 
     def test_places(self):
         book = book_of(("A1", "7"))
-        for arguments, wanted in (((1, 0, 0), 0), ((-1, 0, 0), 0), ((0, 20, 0), 1), ((0, -1, 0), 1), ((0, 0, 10), 2), ((0, 0, -1), 2), ((1, 20, 10), 0), ((0, 20, 10), 1)):
+        for arguments, wanted in (((1, 0, 0), 0), ((-1, 0, 0), 0), ((0, 20, 0), 1), ((0, -1, 0), 1), ((0, 0, 10), 2),
+            ((0, 0, -1), 2), ((1, 20, 10), 0), ((0, 20, 10), 1)):
             for word in ("text", "value", "shown", "reads", "readers", "circle", "block_of"):
                 self.check_refused(book, word, arguments, (BadPlace, wanted))
             self.check_refused(book, "put", (*arguments, "=1+"), (BadPlace, wanted))
             self.check_refused(book, "clear", (*arguments, 0, 0), (BadPlace, wanted))
             self.check_refused(book, "put_block", (*arguments, 0, 0, "%"), (BadPlace, wanted))
-        for arguments, wanted in (((0, 0, 0, 0, 1), 3), ((0, 0, 0, -1, 1), 3), ((0, 19, 0, 2, 1), 3), ((0, 0, 0, 21, 1), 3), ((0, 0, 0, 1, 0), 4), ((0, 0, 9, 1, 2), 4), ((0, 0, 0, 1, 11), 4), ((0, 0, 0, 0, 0), 3)):
-            for word, more in (("clear", ()), ("put_block", ("=1",)), ("fill_down", ()), ("fill_right", ()), ("sort_rows", (0, False)), ("copy", (0, 0, 0)), ("cut", (0, 0, 0))):
+        for arguments, wanted in (((0, 0, 0, 0, 1), 3), ((0, 0, 0, -1, 1), 3), ((0, 19, 0, 2, 1), 3),
+            ((0, 0, 0, 21, 1), 3), ((0, 0, 0, 1, 0), 4), ((0, 0, 9, 1, 2), 4), ((0, 0, 0, 1, 11), 4),
+            ((0, 0, 0, 0, 0), 3)):
+            for word, more in (("clear", ()), ("put_block", ("=1",)), ("fill_down", ()), ("fill_right", ()),
+                ("sort_rows", (0, False)), ("copy", (0, 0, 0)), ("cut", (0, 0, 0))):
                 self.check_refused(book, word, (*arguments, *more), (BadPlace, wanted))
         book.put(0, 19, 9, "1")
         book.clear(0, 0, 0, 20, 10)
@@ -183,14 +219,19 @@ class Putting(Case):
 
 class Blocks(Case):
     def test_results(self):
-        for text, height, width, rows in (("=5", 2, 2, [[5, 5], [5, 5]]), ("={1,2}", 2, 2, [[1, 2], [1, 2]]), ("={1;2}", 2, 2, [[1, 1], [2, 2]]), ("={1,2,3;4,5,6}", 2, 2, [[1, 2], [4, 5]]), ("={1,2;3,4}", 3, 3, [[1, 2, "NA"], [3, 4, "NA"], ["NA"] * 3]),
-                                          ("={1,2}", 2, 3, [[1, 2, "NA"], [1, 2, "NA"]]), ("={1;2}", 3, 2, [[1, 1], [2, 2], ["NA", "NA"]]), ("=#REF!", 1, 2, [["REF", "REF"]]), ("=J19:J20", 2, 1, [[0], [0]])):
+        for text, height, width, rows in (("=5", 2, 2, [[5, 5], [5, 5]]), ("={1,2}", 2, 2, [[1, 2], [1, 2]]),
+            ("={1;2}", 2, 2, [[1, 1], [2, 2]]), ("={1,2,3;4,5,6}", 2, 2, [[1, 2], [4, 5]]),
+            ("={1,2;3,4}", 3, 3, [[1, 2, "NA"], [3, 4, "NA"], ["NA"] * 3]),
+                                          ("={1,2}", 2, 3, [[1, 2, "NA"], [1, 2, "NA"]]),
+                                          ("={1;2}", 3, 2, [[1, 1], [2, 2], ["NA", "NA"]]),
+                                          ("=#REF!", 1, 2, [["REF", "REF"]]), ("=J19:J20", 2, 1, [[0], [0]])):
             book = Book()
             book.put_block(0, 3, 2, height, width, text)
             for i in range(height):
                 for j in range(width):
                     told = rows[i][j]
-                    self.assertEqual(book.value(0, 3 + i, 2 + j), ("error", told) if isinstance(told, str) else number(told), text)
+                    self.assertEqual(book.value(0, 3 + i, 2 + j),
+                        ("error", told) if isinstance(told, str) else number(told), text)
                     self.assertEqual(book.text(0, 3 + i, 2 + j), text)
                     self.assertEqual(book.block_of(0, 3 + i, 2 + j), (3, 2, height, width))
             for cell in ((2, 2), (3, 1), (3 + height, 2), (3, 2 + width)):
@@ -199,13 +240,18 @@ class Blocks(Case):
 
     def test_sizes(self):
         book = Book()
-        for height, width, wanted in ((1, 1, (BadPlace, 3)), (13, 5, (BadPlace, 3)), (20, 10, (BadPlace, 3)), (7, 10, (BadPlace, 3)), (0, 1, (BadPlace, 3)), (1, 0, (BadPlace, 4)), (1, 11, (BadPlace, 4)), (21, 1, (BadPlace, 3)), (1, 2, None), (2, 1, None), (8, 8, None), (16, 4, None), (20, 3, None), (6, 10, None)):
+        for height, width, wanted in ((1, 1, (BadPlace, 3)), (13, 5, (BadPlace, 3)), (20, 10, (BadPlace, 3)),
+            (7, 10, (BadPlace, 3)), (0, 1, (BadPlace, 3)), (1, 0, (BadPlace, 4)), (1, 11, (BadPlace, 4)),
+            (21, 1, (BadPlace, 3)), (1, 2, None), (2, 1, None), (8, 8, None), (16, 4, None), (20, 3, None),
+            (6, 10, None)):
             self.assertEqual(refusal(book.put_block, 0, 0, 0, height, width, "=1"), wanted, (height, width))
             book.clear(0, 0, 0, 20, 10)
 
     def test_texts(self):
         book = Book()
-        for text, wanted in (("=1%", (BadText, 2)), ("%", (BadText, 0)), ("x" * 97, (BadText, 96)), ("1", (BadText, 0)), ("", (BadText, 0)), ("=", (BadText, 0)), ("'=1", (BadText, 0)), ("x" * 65, (BadText, 0)), ("=1+", (Fault, 3)), (" =1", (BadText, 0))):
+        for text, wanted in (("=1%", (BadText, 2)), ("%", (BadText, 0)), ("x" * 97, (BadText, 96)),
+            ("1", (BadText, 0)), ("", (BadText, 0)), ("=", (BadText, 0)), ("'=1", (BadText, 0)),
+            ("x" * 65, (BadText, 0)), ("=1+", (Fault, 3)), (" =1", (BadText, 0))):
             self.check_refused(book, "put_block", (0, 0, 0, 2, 2, text), wanted)
             self.check_refused(book, "probe", (0, text), wanted)
             self.check_refused(book, "define", ("X", text), wanted)
@@ -220,7 +266,9 @@ class Blocks(Case):
             for text in ("1", "", "=1"):
                 self.check_refused(book, "put", (0, row, column, text), (BlockCut, 0, 2, 2))
         self.check_refused(book, "put", (0, 2, 2, "=1+"), (Fault, 3))
-        for area, wanted in (((0, 0, 3, 3), (BlockCut, 0, 2, 2)), ((3, 3, 1, 1), (BlockCut, 0, 2, 2)), ((2, 3, 1, 3), (BlockCut, 0, 2, 2)), ((2, 6, 1, 1), (BlockCut, 0, 2, 5)), ((2, 2, 2, 4), (BlockCut, 0, 2, 5)), ((0, 0, 20, 10), None), ((2, 2, 2, 2), None), ((0, 0, 2, 10), None)):
+        for area, wanted in (((0, 0, 3, 3), (BlockCut, 0, 2, 2)), ((3, 3, 1, 1), (BlockCut, 0, 2, 2)),
+            ((2, 3, 1, 3), (BlockCut, 0, 2, 2)), ((2, 6, 1, 1), (BlockCut, 0, 2, 5)),
+            ((2, 2, 2, 4), (BlockCut, 0, 2, 5)), ((0, 0, 20, 10), None), ((2, 2, 2, 2), None), ((0, 0, 2, 10), None)):
             for word, more in (("clear", ()), ("put_block", ("=3",))):
                 if wanted is not None and (word == "clear" or area[2] * area[3] > 1):
                     self.check_refused(book, word, (0, *area, *more), wanted)
@@ -263,7 +311,8 @@ class Names(Case):
 
     def test_wrong_names(self):
         book = Book()
-        for name in ("", "1A", "A1", "j20", "true", "LET", "lambda", "sum", "abcdefghi", "a.b", "a b", "\u00e4", "_x"):
+        for name in ("", "1A", "A1", "j20", "true", "LET", "lambda", "sum", "abcdefghi", "a.b", "a b", "\u00e4",
+            "_x"):
             self.check_refused(book, "define", (name, "%"), (BadName, name))
         for name in ("A", "K1", "A21", "abcdefgh", "x_1"):
             book.define(name, "=1")
@@ -271,8 +320,14 @@ class Names(Case):
 
     def test_references(self):
         book = Book()
-        for text, wanted in (("=A1", Fault), ("=$A$1", Fault), ("=MAIN!A1", Fault), ("=MAIN!$A1", Fault), ("=MAIN!A$1", Fault), ("=MAIN!$A$1", None), ("=MAIN!$A$1:B$2", Fault), ("=MAIN!$A$1:$B2", Fault), ("=MAIN!$A1:$B$2", Fault), ("=MAIN!A$1:$B$2", Fault), ("=MAIN!$A$1:$B$2", None),
-                             ("=MAIN!1:$2", Fault), ("=MAIN!$1:2", Fault), ("=MAIN!$1:$2", None), ("=MAIN!$A:B", Fault), ("=MAIN!A:$B", Fault), ("=MAIN!$A:$B", None), ("=$A:$B", Fault), ("=$1:$2", Fault), ("=LAMBDA(x,LET(y,MAIN!$A$1,x+MAIN!A1))", Fault), ("=SUM(MAIN!$A$1,-A1)", Fault), ("=1+X", None), ("=INDIRECT(\"A1\")", None)):
+        for text, wanted in (("=A1", Fault), ("=$A$1", Fault), ("=MAIN!A1", Fault), ("=MAIN!$A1", Fault),
+                             ("=MAIN!A$1", Fault), ("=MAIN!$A$1", None), ("=MAIN!$A$1:B$2", Fault),
+                             ("=MAIN!$A$1:$B2", Fault),
+                             ("=MAIN!$A1:$B$2", Fault), ("=MAIN!A$1:$B$2", Fault), ("=MAIN!$A$1:$B$2", None),
+                             ("=MAIN!1:$2", Fault), ("=MAIN!$1:2", Fault), ("=MAIN!$1:$2", None),
+                             ("=MAIN!$A:B", Fault), ("=MAIN!A:$B", Fault), ("=MAIN!$A:$B", None), ("=$A:$B", Fault),
+                             ("=$1:$2", Fault), ("=LAMBDA(x,LET(y,MAIN!$A$1,x+MAIN!A1))", Fault),
+                             ("=SUM(MAIN!$A$1,-A1)", Fault), ("=1+X", None), ("=INDIRECT(\"A1\")", None)):
             self.assertEqual(refusal(book.define, "X", text), None if wanted is None else (Fault, 0), text)
 
     def test_twelve(self):
@@ -284,7 +339,8 @@ class Names(Case):
         self.check_refused(book, "define", ("1", "=1"), (BadName, "1"))
         book.define("n5_", "=55")
         self.assertEqual(book.definition("N5_"), "=55")
-        self.assertEqual(book.names(), ("N0_", "N10_", "N11_", "N1_", "N2_", "N3_", "N4_", "N5_", "N6_", "N7_", "N8_", "N9_"))
+        self.assertEqual(book.names(), ("N0_", "N10_", "N11_", "N1_", "N2_", "N3_", "N4_", "N5_", "N6_", "N7_", "N8_",
+            "N9_"))
         book.undefine("N0_")
         book.define("M", "=1")
 
@@ -323,14 +379,22 @@ class Told(Case):
 
     def test_shown(self):
         book = book_of(("A1", "1.50"), ("A2", "=A3"), ("A3", "=A2"), ("A4", "=1=1"), ("A5", "'x"), ("A6", "=1/0"))
-        self.assertEqual([book.shown(0, i, 0) for i in range(7)], ["1.5", "#CIRC!", "#CIRC!", "TRUE", "x", "#DIV!", ""])
+        self.assertEqual([book.shown(0, i, 0) for i in range(7)],
+            ["1.5", "#CIRC!", "#CIRC!", "TRUE", "x", "#DIV!", ""])
 
     def test_probes(self):
         book = book_of(("A1", "1"), ("A2", "=A3"), ("A3", "=A2"))
         book.add_sheet(1, "P")
         state = saved(book), book.journal(), book.anew(), book.changed()
-        for sheet, text, wanted in ((0, "=A1+1", (number(2), (("cell", 0, 0, 0),))), (1, "=A1", (number(0), (("cell", 1, 0, 0),))), (0, "={1,2}", (("array", 1, 2, (number(1), number(2))), ())), (0, "=A1+A2+A1", (CIRCLE, (("cell", 0, 0, 0), ("cell", 0, 1, 0)))),
-                                    (0, "=IFERROR(A2,1)", (CIRCLE, (("cell", 0, 1, 0),))), (0, "=FOO", (("error", "NAME"), (("name", "FOO"),))), (0, "=INDIRECT(\"p!A1\")", (number(0), (("sheet", "P"), ("cell", 1, 0, 0)))), (0, "=LAMBDA(1)", (("error", "CALC"), ())), (1, "=MAIN!A1", (number(1), (("cell", 0, 0, 0),)))):
+        for sheet, text, wanted in ((0, "=A1+1", (number(2), (("cell", 0, 0, 0),))),
+                                    (1, "=A1", (number(0), (("cell", 1, 0, 0),))), (0, "={1,2}",
+                                    (("array", 1, 2, (number(1), number(2))), ())), (0, "=A1+A2+A1",
+                                    (CIRCLE, (("cell", 0, 0, 0), ("cell", 0, 1, 0)))),
+                                    (0, "=IFERROR(A2,1)", (CIRCLE, (("cell", 0, 1, 0),))),
+                                    (0, "=FOO", (("error", "NAME"), (("name", "FOO"),))),
+                                    (0, "=INDIRECT(\"p!A1\")", (number(0), (("sheet", "P"), ("cell", 1, 0, 0)))),
+                                    (0, "=LAMBDA(1)", (("error", "CALC"), ())),
+                                    (1, "=MAIN!A1", (number(1), (("cell", 0, 0, 0),)))):
             self.assertEqual(book.probe(sheet, text), wanted, text)
         self.assertEqual((saved(book), book.journal(), book.anew(), book.changed()), state)
         self.check_refused(book, "probe", (2, "=1"), (BadPlace, 0))
@@ -359,8 +423,12 @@ class Evaluating(Case):
         book.put(0, 1, 0, "=A1+1")
         self.assertEqual([(own, result) for _, own, result in logged.calls], [(0, number(2))])
         logged.calls = []
-        for word, arguments in (("value", (0, 1, 0)), ("text", (0, 1, 0)), ("shown", (0, 1, 0)), ("reads", (0, 1, 0)), ("probe", (0, "=A1+A2")), ("anew", ()), ("changed", ()), ("readers", (0, 0, 0)), ("circle", (0, 0, 0)), ("sheets", ()), ("names", ()), ("journal", ()),
-                                ("undo_depth", ()), ("redo_depth", ()), ("block_of", (0, 0, 0)), ("begin", ()), ("commit", ())):
+        for word, arguments in (("value", (0, 1, 0)), ("text", (0, 1, 0)), ("shown", (0, 1, 0)), ("reads", (0, 1, 0)),
+                                ("probe", (0, "=A1+A2")), ("anew", ()), ("changed", ()), ("readers", (0, 0, 0)),
+                                ("circle", (0, 0, 0)),
+                                ("sheets", ()), ("names", ()), ("journal", ()),
+                                ("undo_depth", ()), ("redo_depth", ()), ("block_of", (0, 0, 0)), ("begin", ()),
+                                ("commit", ())):
             getattr(book, word)(*arguments)
             self.assertEqual(logged.calls, [], word)
         saved(book)

@@ -26,9 +26,11 @@ def texts(book, sheet=0):
 
 class Copying(Case):
     def test_cells(self):
-        book = book_of(("A1", "1"), ("A2", "'2"), ("B1", "=A1+$A1+A$1+$A$1+MAIN!A1"), ("B2", "=J20"), ("D5", "9"), ("C4", "8"))
+        book = book_of(("A1", "1"), ("A2", "'2"), ("B1", "=A1+$A1+A$1+$A$1+MAIN!A1"), ("B2", "=J20"), ("D5", "9"),
+            ("C4", "8"))
         book.copy(0, 0, 0, 2, 2, 0, 3, 2)
-        self.assertEqual(texts(book), {"A1": "1", "A2": "'2", "B1": "=A1+$A1+A$1+$A$1+MAIN!A1", "B2": "=J20", "C4": "1", "C5": "'2", "D4": "=C4+$A4+C$1+$A$1+MAIN!C4", "D5": "=#REF!"})
+        self.assertEqual(texts(book), {"A1": "1", "A2": "'2", "B1": "=A1+$A1+A$1+$A$1+MAIN!A1", "B2": "=J20",
+            "C4": "1", "C5": "'2", "D4": "=C4+$A4+C$1+$A$1+MAIN!C4", "D5": "=#REF!"})
         book.copy(0, 5, 5, 2, 2, 0, 3, 2)
         self.assertEqual(sorted(texts(book)), ["A1", "A2", "B1", "B2"])
 
@@ -57,7 +59,8 @@ class Copying(Case):
         self.check_refused(book, "copy", (0, 4, 4, 1, 1, 0, 1, 1), (BlockCut, 0, 0, 0))
         book.copy(0, 0, 0, 2, 2, 0, 0, 0)
         book.copy(0, 0, 0, 3, 3, 0, 5, 5)
-        self.assertEqual((book.block_of(0, 6, 6), book.text(0, 6, 6), book.block_of(0, 0, 0)), ((5, 5, 2, 2), "=#REF!", (0, 0, 2, 2)))
+        self.assertEqual((book.block_of(0, 6, 6), book.text(0, 6, 6), book.block_of(0, 0, 0)),
+            ((5, 5, 2, 2), "=#REF!", (0, 0, 2, 2)))
         book.copy(0, 9, 0, 2, 2, 0, 0, 0)
         self.assertIsNone(book.block_of(0, 0, 0))
         book.put_block(0, 0, 0, 1, 2, "=1")
@@ -69,7 +72,9 @@ class Copying(Case):
         book = book_of(("A1", "1"))
         book.put_block(0, 0, 4, 1, 2, "=1")
         for word in ("copy", "cut"):
-            for target, wanted in (((1, 0, 0), 5), ((-1, 99, 99), 5), ((0, -1, 0), 6), ((0, 20, 0), 6), ((0, 19, 0), 6), ((0, 0, -1), 7), ((0, 0, 10), 7), ((0, 0, 9), 7), ((0, 19, 9), 6), ((0, 20, 10), 6), ((0, 18, 9), 7)):
+            for target, wanted in (((1, 0, 0), 5), ((-1, 99, 99), 5), ((0, -1, 0), 6), ((0, 20, 0), 6),
+                ((0, 19, 0), 6), ((0, 0, -1), 7), ((0, 0, 10), 7), ((0, 0, 9), 7), ((0, 19, 9), 6), ((0, 20, 10), 6),
+                ((0, 18, 9), 7)):
                 self.check_refused(book, word, (0, 0, 0, 2, 2, *target), (BadPlace, wanted))
             self.check_refused(book, word, (0, 0, 0, 0, 2, 1, 0, 0), (BadPlace, 3))
             self.check_refused(book, word, (1, 0, 0, 1, 1, 1, 0, 0), (BadPlace, 0))
@@ -83,12 +88,14 @@ class Filling(Case):
     def test_down(self):
         book = book_of(("A1", "1"), ("B1", "=A1+A$1"), ("A2", "7"), ("B3", "8"), ("C2", "9"), ("C4", "5"))
         book.fill_down(0, 0, 0, 3, 3)
-        self.assertEqual(texts(book), {"A1": "1", "A2": "1", "A3": "1", "B1": "=A1+A$1", "B2": "=A2+A$1", "B3": "=A3+A$1", "C4": "5"})
+        self.assertEqual(texts(book), {"A1": "1", "A2": "1", "A3": "1", "B1": "=A1+A$1", "B2": "=A2+A$1",
+            "B3": "=A3+A$1", "C4": "5"})
 
     def test_right(self):
         book = book_of(("A1", "1"), ("A2", "=B1+$B1"), ("B1", "7"), ("C2", "8"), ("D1", "5"))
         book.fill_right(0, 0, 0, 2, 3)
-        self.assertEqual(texts(book), {"A1": "1", "B1": "1", "C1": "1", "A2": "=B1+$B1", "B2": "=C1+$B1", "C2": "=D1+$B1", "D1": "5"})
+        self.assertEqual(texts(book), {"A1": "1", "B1": "1", "C1": "1", "A2": "=B1+$B1", "B2": "=C1+$B1",
+            "C2": "=D1+$B1", "D1": "5"})
 
     def test_one_line(self):
         book = book_of(("A1", "1"), ("B2", "2"))
@@ -111,11 +118,13 @@ class Filling(Case):
 
 class Cutting(Case):
     def test_references_follow(self):
-        book = book_of(("A1", "1"), ("B1", "=A1+C1"), ("D1", "=A1+B1"), ("E1", "=SUM(A1:B1)"), ("F1", "=SUM(A1:C1)"), ("G1", "=F5"), ("H1", "=1:1"), ("F5", "9"))
+        book = book_of(("A1", "1"), ("B1", "=A1+C1"), ("D1", "=A1+B1"), ("E1", "=SUM(A1:B1)"), ("F1", "=SUM(A1:C1)"),
+            ("G1", "=F5"), ("H1", "=1:1"), ("F5", "9"))
         book.define("N", "=MAIN!$A$1:$B$1")
         book.define("M", "=MAIN!$F$5")
         book.cut(0, 0, 0, 1, 2, 0, 4, 5)
-        self.assertEqual(texts(book), {"F5": "1", "G5": "=F5+C1", "D1": "=F5+G5", "E1": "=SUM(F5:G5)", "F1": "=SUM(A1:C1)", "G1": "=#REF!", "H1": "=1:1"})
+        self.assertEqual(texts(book), {"F5": "1", "G5": "=F5+C1", "D1": "=F5+G5", "E1": "=SUM(F5:G5)",
+            "F1": "=SUM(A1:C1)", "G1": "=#REF!", "H1": "=1:1"})
         self.assertEqual((book.definition("N"), book.definition("M")), ("=MAIN!$F$5:$G$5", "=#REF!"))
 
     def test_to_another_sheet(self):
@@ -183,14 +192,17 @@ class Sorting(Case):
 
     def test_alike_ones_stay(self):
         for falling, wanted in ((False, "acbd"), (True, "bdac")):
-            book = book_of(("A1", "1"), ("A2", "2"), ("A3", "1"), ("A4", "2"), ("B1", "a"), ("B2", "b"), ("B3", "c"), ("B4", "d"))
+            book = book_of(("A1", "1"), ("A2", "2"), ("A3", "1"), ("A4", "2"), ("B1", "a"), ("B2", "b"), ("B3", "c"),
+                ("B4", "d"))
             book.sort_rows(0, 0, 0, 4, 2, 0, falling)
             self.assertEqual("".join([book.text(0, row, 1) for row in range(4)]), wanted)
 
     def test_formulas(self):
-        book = book_of(("A2", "=B2"), ("A3", "=B3+B$3"), ("A4", "=5"), ("B2", "9"), ("B3", "1"), ("B4", "2"), ("C2", "x"), ("C4", "y"), ("E1", "=A2"))
+        book = book_of(("A2", "=B2"), ("A3", "=B3+B$3"), ("A4", "=5"), ("B2", "9"), ("B3", "1"), ("B4", "2"),
+            ("C2", "x"), ("C4", "y"), ("E1", "=A2"))
         book.sort_rows(0, 1, 0, 3, 1, 0, False)
-        self.assertEqual(texts(book), {"A2": "=B2+B$3", "A3": "=5", "A4": "=B4", "B2": "9", "B3": "1", "B4": "2", "C2": "x", "C4": "y", "E1": "=A2"})
+        self.assertEqual(texts(book), {"A2": "=B2+B$3", "A3": "=5", "A4": "=B4", "B2": "9", "B3": "1", "B4": "2",
+            "C2": "x", "C4": "y", "E1": "=A2"})
         book = book_of(("A1", "=A2"), ("A2", "=A1"), ("A3", "#LIMIT!"), ("A4", "7"))
         book.sort_rows(0, 0, 0, 4, 1, 0, False)
         self.assertEqual([book.text(0, row, 0) for row in range(4)], ["7", "#LIMIT!", "=A4", "=A3"])
@@ -257,7 +269,8 @@ class Drawn(unittest.TestCase):
                 try:
                     word = draw.choice(["put", "put", "put", "put_block"])
                     box = drawer.box()
-                    getattr(book, word)(draw.randrange(2), *(box if word == "put_block" else box[:2]), drawer.formula() if word == "put_block" else drawer.text())
+                    getattr(book, word)(draw.randrange(2), *(box if word == "put_block" else box[:2]),
+                        drawer.formula() if word == "put_block" else drawer.text())
                 except WorkError:
                     pass
             for _ in range(10):
@@ -269,27 +282,33 @@ class Drawn(unittest.TestCase):
         to_row, to_column = draw.randrange(6), draw.randrange(4)
         key, to_key = book.sheets()[sheet][0], book.sheets()[other][0]
         before = self.contents(book)
-        source = {(key, row + i, column + j): (to_key, to_row + i, to_column + j) for i in range(height) for j in range(width)}
+        source = {(key, row + i, column + j): (to_key, to_row + i,
+            to_column + j) for i in range(height) for j in range(width)}
         word = draw.choice(["copy", "cut", "fill_down", "fill_right", "sort_rows"])
         try:
             if word == "copy":
                 wanted = {p: one for p, one in before.items() if p not in source.values()}
-                wanted.update({source[p]: self.moved(one, to_row - row, to_column - column) for p, one in before.items() if p in source})
+                wanted.update({source[p]: self.moved(one, to_row - row, to_column - column) for p,
+                    one in before.items() if p in source})
                 self.check(book, word, (sheet, row, column, height, width, other, to_row, to_column), wanted, seed)
             elif word == "cut":
-                areas = (key, row, column, row + height - 1, column + width - 1), (to_key, to_row, to_column, to_row + height - 1, to_column + width - 1)
+                areas = (key, row, column, row + height - 1, column + width - 1), (to_key, to_row, to_column,
+                    to_row + height - 1, to_column + width - 1)
                 wanted = {}
                 for p, one in before.items():
                     if p in source or p not in source.values():
                         new = source.get(p, p)
-                        wanted[new] = (carried(one[0], p[0], new[0], *areas), *one[1:]) if isinstance(one[0], tuple) else one
+                        wanted[new] = (carried(one[0], p[0], new[0], *areas), *one[1:]) if isinstance(one[0],
+                            tuple) else one
                 self.check(book, word, (sheet, row, column, height, width, other, to_row, to_column), wanted, seed)
             elif word == "sort_rows":
                 by, falling = draw.randrange(width), draw.random() < 0.5
-                order = sorted(range(row, row + height), key=lambda at: order_key(book.value(sheet, at, column + by)), reverse=falling)
+                order = sorted(range(row, row + height), key=lambda at: order_key(book.value(sheet, at, column + by)),
+                    reverse=falling)
                 wanted = {p: one for p, one in before.items() if p not in source}
                 wanted.update({(key, row + new, j): self.moved(before[(key, old, j)], row + new - old, 0)
-                               for new, old in enumerate(order) for j in range(column, column + width) if (key, old, j) in before})
+                               for new, old in enumerate(order) for j in range(column, column + width) if (key, old,
+                               j) in before})
                 self.check(book, word, (sheet, row, column, height, width, by, falling), wanted, seed)
             else:
                 wanted = {p: one for p, one in before.items() if p not in source}

@@ -20,7 +20,8 @@ def worked(word, *amounts):
 
 def some_amounts(many):
     draw = random.Random(1)
-    found = [0, 1, -1, SCALE, -SCALE, SCALE - 1, 1 - SCALE, SCALE // 2, -SCALE // 2, 3 * SCALE // 2, TOP, -TOP, TOP - 1,
+    found = [0, 1, -1, SCALE, -SCALE, SCALE - 1, 1 - SCALE, SCALE // 2, -SCALE // 2, 3 * SCALE // 2, TOP, -TOP,
+             TOP - 1,
              10 ** 20, -10 ** 20, 2500000, 3500000, -2500000, 10 * SCALE, 15 * SCALE, 25 * SCALE]
     while len(found) < many:
         found.append(draw.randrange(-10 ** draw.randrange(1, 22), 10 ** draw.randrange(1, 22)))
@@ -39,17 +40,22 @@ class Numbers(FormulaCase):
             self.assertEqual(worked("TRUNC", m), ("number", floor if m >= 0 or m % SCALE == 0 else floor + SCALE))
             self.assertEqual(worked("SQRT", m), number_of(root(m)))
         self.check((f"=INT(-{GREATEST})", "#NUM"), (f"=TRUNC(-{GREATEST})", number("-999999999999999")),
-                   ("=INT(-0.5)", -1), ("=TRUNC(-0.5)", 0), ("=TRUNC(1.9)", 1), ("=ABS(-2.5)", number("2.5")), ("=SQRT(-1)", "#NUM"),
+                   ("=INT(-0.5)", -1), ("=TRUNC(-0.5)", 0), ("=TRUNC(1.9)", 1), ("=ABS(-2.5)", number("2.5")),
+                   ("=SQRT(-1)", "#NUM"),
                    ("=SQRT(2)", number("1.414213")), ("=SIGN(-0.000001)", -1))
 
     def test_round(self):
         for m in some_amounts(120):
             for figures in range(-17, 9):
                 self.assertEqual(worked("ROUND", m, figures * SCALE), self.rounded(m, figures), (m, figures))
-        self.check(("=ROUND(2.5,0)", 2), ("=ROUND(3.5,0)", 4), ("=ROUND(-2.5,0)", -2), ("=ROUND(0.15,1)", number("0.2")),
-                   ("=ROUND(0.25,1)", number("0.2")), ("=ROUND(25,-1)", 20), ("=ROUND(1.5,0.9)", 2), ("=ROUND(1.5,-0.1)", 0),
-                   ("=ROUND(1,7)", "#NUM"), ("=ROUND(1,-16)", "#NUM"), ("=ROUND(1,6.5)", 1), ("=ROUND(1,-15.5)", "#NUM"),
-                   (f"=ROUND({GREATEST},0)", "#NUM"), (f"=ROUND({GREATEST},-15)", "#NUM"), (f"=ROUND({GREATEST},6)", ("number", TOP)),
+        self.check(("=ROUND(2.5,0)", 2), ("=ROUND(3.5,0)", 4), ("=ROUND(-2.5,0)", -2),
+                   ("=ROUND(0.15,1)", number("0.2")),
+                   ("=ROUND(0.25,1)", number("0.2")), ("=ROUND(25,-1)", 20), ("=ROUND(1.5,0.9)", 2),
+                   ("=ROUND(1.5,-0.1)", 0),
+                   ("=ROUND(1,7)", "#NUM"), ("=ROUND(1,-16)", "#NUM"), ("=ROUND(1,6.5)", 1),
+                   ("=ROUND(1,-15.5)", "#NUM"),
+                   (f"=ROUND({GREATEST},0)", "#NUM"), (f"=ROUND({GREATEST},-15)", "#NUM"),
+                   (f"=ROUND({GREATEST},6)", ("number", TOP)),
                    ("=ROUND(400000000000000,-15)", 0), ("=ROUND(1.234567,3)", number("1.235")))
 
     def rounded(self, m, figures):
@@ -68,10 +74,14 @@ class Numbers(FormulaCase):
                 self.assertEqual(worked("MOD", m, n), number_of(remainder(m, n)))
                 self.assertEqual(worked("POWER", m, n), number_of(raised(m, n)))
                 self.assertEqual(worked("QUOTIENT", m, n), self.quotient(m, n))
-        self.check(("=MOD(7,-3)", -2), ("=MOD(1,0)", "#DIV"), ("=QUOTIENT(7,2)", 3), ("=QUOTIENT(-7,2)", -3), ("=QUOTIENT(7,-2)", -3),
-                   ("=QUOTIENT(-7,-2)", 3), ("=QUOTIENT(1,0)", "#DIV"), ("=QUOTIENT(0,0)", "#DIV"), ("=QUOTIENT(0,-5)", 0),
-                   (f"=QUOTIENT({GREATEST},0.000001)", "#NUM"), ("=QUOTIENT(0.9,0.3)", 3), ("=POWER(2,10)", 1024), ("=POWER(2,0.5)", "#NUM"),
-                   ("=POWER(0,-1)", "#DIV"), ("=POWER(2,65)", "#NUM"), ("=POWER(10,15)", "#NUM"), ("=POWER(2,-1)", number("0.5")))
+        self.check(("=MOD(7,-3)", -2), ("=MOD(1,0)", "#DIV"), ("=QUOTIENT(7,2)", 3), ("=QUOTIENT(-7,2)", -3),
+                   ("=QUOTIENT(7,-2)", -3),
+                   ("=QUOTIENT(-7,-2)", 3), ("=QUOTIENT(1,0)", "#DIV"), ("=QUOTIENT(0,0)", "#DIV"),
+                   ("=QUOTIENT(0,-5)", 0),
+                   (f"=QUOTIENT({GREATEST},0.000001)", "#NUM"), ("=QUOTIENT(0.9,0.3)", 3), ("=POWER(2,10)", 1024),
+                   ("=POWER(2,0.5)", "#NUM"),
+                   ("=POWER(0,-1)", "#DIV"), ("=POWER(2,65)", "#NUM"), ("=POWER(10,15)", "#NUM"),
+                   ("=POWER(2,-1)", number("0.5")))
 
     def quotient(self, m, n):
         if n == 0:
@@ -85,21 +95,27 @@ class Numbers(FormulaCase):
             for b in range(0, 25):
                 self.assertEqual(worked("GCD", a * SCALE, b * SCALE), number(math.gcd(a, b)))
                 self.assertEqual(worked("LCM", a * SCALE, b * SCALE), number(math.lcm(a, b)))
-        self.check(("=GCD(0,0)", 0), ("=GCD(0,7)", 7), ("=GCD(12.9,18.9)", 6), ("=GCD(-0.5,3)", "#NUM"), ("=GCD(3,-1)", "#NUM"),
-                   ("=GCD(-1,3)", "#NUM"), ("=LCM(0,-1)", "#NUM"), ("=LCM(-1,0)", "#NUM"), ("=LCM(4.7,6.2)", 12), ("=LCM(0,5)", 0),
-                   ("=LCM(999999999999999,999999999999998)", "#NUM"), ("=LCM(999999999999999,1)", number("999999999999999")),
-                   ("=GCD(999999999999999,333333333333333)", number("333333333333333")), ("=LCM(3,500000000000000)", "#NUM"))
+        self.check(("=GCD(0,0)", 0), ("=GCD(0,7)", 7), ("=GCD(12.9,18.9)", 6), ("=GCD(-0.5,3)", "#NUM"),
+                   ("=GCD(3,-1)", "#NUM"),
+                   ("=GCD(-1,3)", "#NUM"), ("=LCM(0,-1)", "#NUM"), ("=LCM(-1,0)", "#NUM"), ("=LCM(4.7,6.2)", 12),
+                   ("=LCM(0,5)", 0),
+                   ("=LCM(999999999999999,999999999999998)", "#NUM"),
+                   ("=LCM(999999999999999,1)", number("999999999999999")),
+                   ("=GCD(999999999999999,333333333333333)", number("333333333333333")),
+                   ("=LCM(3,500000000000000)", "#NUM"))
 
     def test_conversions(self):
         for word in ("ABS", "SIGN", "INT", "TRUNC", "SQRT"):
-            self.check((f"={word}(TRUE)", 1), (f'={word}("1")', 1), (f"={word}(J9)", 0), (f'={word}("x")', "#VALUE"), (f"={word}(#NA!)", "#NA"), (f'={word}("")', "#VALUE"), (f"={word}(LAMBDA(1))", "#CALC"),
+            self.check((f"={word}(TRUE)", 1), (f'={word}("1")', 1), (f"={word}(J9)", 0), (f'={word}("x")', "#VALUE"),
+                       (f"={word}(#NA!)", "#NA"), (f'={word}("")', "#VALUE"), (f"={word}(LAMBDA(1))", "#CALC"),
                        (f"={word}(A:J)", "#SIZE"), (f"={word}({{1,TRUE,#NA!}})", [[1, 1, "#NA"]]))
         for word in ("ROUND", "MOD", "QUOTIENT", "POWER", "GCD", "LCM"):
             self.check((f'={word}("x",#NA!)', "#NA"), (f'={word}(#REF!,#NA!)', "#REF"), (f'={word}("x",1)', "#VALUE"),
                        (f'={word}(1,"x")', "#VALUE"), (f'={word}(TRUE,"1")', {"MOD": 0}.get(word, 1)))
         self.check(("=GCD(,4)", 4), ("=MOD(4,)", "#DIV"), ("=ROUND(2.4,)", 2), ("=POWER(,)", 1))
         # Errors of both go ahead of conversions; then these are made from the left.
-        self.check((f'=GCD("x",-{GREATEST})', "#VALUE"), (f'=GCD(-{GREATEST},"x")', "#NUM"), (f"=ROUND(1,-{GREATEST})", "#NUM"))
+        self.check((f'=GCD("x",-{GREATEST})', "#VALUE"), (f'=GCD(-{GREATEST},"x")', "#NUM"),
+            (f"=ROUND(1,-{GREATEST})", "#NUM"))
 
 
 if __name__ == "__main__":

@@ -16,8 +16,13 @@ def state(book):
 class Steps(Case):
     def test_back_and_forth(self):
         book = Book()
-        deeds = [("put", (0, 0, 0, "1")), ("put", (0, 0, 1, "=A1+X")), ("define", ("X", "=5")), ("put_block", (0, 2, 2, 2, 2, "=A1")), ("copy", (0, 0, 0, 1, 2, 0, 9, 0)), ("insert_rows", (0, 0, 1)), ("add_sheet", (0, "P")), ("cut", (1, 1, 0, 1, 2, 0, 3, 3)),
-                 ("rename_sheet", (0, "Q")), ("sort_rows", (1, 0, 0, 5, 1, 0, True)), ("fill_down", (0, 3, 3, 3, 2)), ("move_sheet", (0, 1)), ("delete_columns", (0, 0, 1)), ("undefine", ("X",)), ("drop_sheet", (0,)), ("clear", (0, 0, 0, 9, 9))]
+        deeds = [("put", (0, 0, 0, "1")), ("put", (0, 0, 1, "=A1+X")), ("define", ("X", "=5")),
+                 ("put_block", (0, 2, 2, 2, 2, "=A1")), ("copy", (0, 0, 0, 1, 2, 0, 9, 0)),
+                 ("insert_rows", (0, 0, 1)),
+                 ("add_sheet", (0, "P")), ("cut", (1, 1, 0, 1, 2, 0, 3, 3)),
+                 ("rename_sheet", (0, "Q")), ("sort_rows", (1, 0, 0, 5, 1, 0, True)), ("fill_down", (0, 3, 3, 3, 2)),
+                 ("move_sheet", (0, 1)), ("delete_columns", (0, 0, 1)), ("undefine", ("X",)), ("drop_sheet", (0,)),
+                 ("clear", (0, 0, 0, 9, 9))]
         states = [saved(book)]
         for word, arguments in deeds:
             getattr(book, word)(*arguments)

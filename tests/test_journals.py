@@ -10,13 +10,23 @@ from sheetworks.states import saved
 from tests.drawing import Drawer
 from tests.test_book import Case
 
-DEEDS = [("put", (0, 0, 0, "1")), ("put", (0, 0, 1, "")), ("put", (0, 1, 0, "= a1 + 1 ")), ("put", (0, 2, 0, " x ")), ("put_block", (0, 3, 3, 2, 2, "={1,2}")), ("define", ("foo", "=main!$a$1")), ("undefine", ("Foo",)), ("clear", (0, 0, 1, 1, 1)),
-         ("copy", (0, 0, 0, 2, 1, 0, 9, 8)), ("cut", (0, 9, 8, 1, 1, 0, 8, 7)), ("fill_down", (0, 0, 0, 2, 1)), ("fill_right", (0, 0, 0, 1, 2)), ("sort_rows", (0, 0, 0, 2, 1, 0, True)), ("sort_rows", (0, 0, 0, 2, 1, 0, False)),
-         ("insert_rows", (0, 0, 1)), ("insert_columns", (0, 0, 1)), ("delete_rows", (0, 0, 1)), ("delete_columns", (0, 0, 1)), ("add_sheet", (1, "plan")), ("rename_sheet", (1, "Long_one")), ("move_sheet", (0, 1)), ("undo", ()), ("redo", ()), ("redo", ()),
-         ("begin", ()), ("drop_sheet", (0,)), ("abort", ()), ("begin", ()), ("put", (0, 5, 5, "'")), ("commit", ()), ("undo", ())]
-CALLS = ["put 0 0 0 1", "put 0 0 1 ", "put 0 1 0 = a1 + 1 ", "put 0 2 0  x ", "put_block 0 3 3 2 2 ={1,2}", "define FOO =main!$a$1", "undefine FOO", "clear 0 0 1 1 1",
-         "copy 0 0 0 2 1 0 9 8", "cut 0 9 8 1 1 0 8 7", "fill_down 0 0 0 2 1", "fill_right 0 0 0 1 2", "sort_rows 0 0 0 2 1 0 1", "sort_rows 0 0 0 2 1 0 0",
-         "insert_rows 0 0 1", "insert_columns 0 0 1", "delete_rows 0 0 1", "delete_columns 0 0 1", "add_sheet 1 PLAN", "rename_sheet 1 LONG_ONE", "move_sheet 0 1", "undo", "redo", "redo",
+DEEDS = [("put", (0, 0, 0, "1")), ("put", (0, 0, 1, "")), ("put", (0, 1, 0, "= a1 + 1 ")), ("put", (0, 2, 0, " x ")),
+         ("put_block", (0, 3, 3, 2, 2, "={1,2}")), ("define", ("foo", "=main!$a$1")), ("undefine", ("Foo",)),
+         ("clear", (0, 0, 1, 1, 1)),
+         ("copy", (0, 0, 0, 2, 1, 0, 9, 8)), ("cut", (0, 9, 8, 1, 1, 0, 8, 7)), ("fill_down", (0, 0, 0, 2, 1)),
+         ("fill_right", (0, 0, 0, 1, 2)), ("sort_rows", (0, 0, 0, 2, 1, 0, True)),
+         ("sort_rows", (0, 0, 0, 2, 1, 0, False)),
+         ("insert_rows", (0, 0, 1)), ("insert_columns", (0, 0, 1)), ("delete_rows", (0, 0, 1)),
+         ("delete_columns", (0, 0, 1)), ("add_sheet", (1, "plan")), ("rename_sheet", (1, "Long_one")),
+         ("move_sheet", (0, 1)), ("undo", ()), ("redo", ()), ("redo", ()),
+         ("begin", ()), ("drop_sheet", (0,)), ("abort", ()), ("begin", ()), ("put", (0, 5, 5, "'")), ("commit", ()),
+         ("undo", ())]
+CALLS = ["put 0 0 0 1", "put 0 0 1 ", "put 0 1 0 = a1 + 1 ", "put 0 2 0  x ", "put_block 0 3 3 2 2 ={1,2}",
+         "define FOO =main!$a$1", "undefine FOO", "clear 0 0 1 1 1",
+         "copy 0 0 0 2 1 0 9 8", "cut 0 9 8 1 1 0 8 7", "fill_down 0 0 0 2 1", "fill_right 0 0 0 1 2",
+         "sort_rows 0 0 0 2 1 0 1", "sort_rows 0 0 0 2 1 0 0",
+         "insert_rows 0 0 1", "insert_columns 0 0 1", "delete_rows 0 0 1", "delete_columns 0 0 1", "add_sheet 1 PLAN",
+         "rename_sheet 1 LONG_ONE", "move_sheet 0 1", "undo", "redo", "redo",
          "begin", "drop_sheet 0", "abort", "begin", "put 0 5 5 '", "commit", "undo"]
 
 
@@ -48,7 +58,8 @@ class Lines(Case):
     def test_calls_that_raise_or_ask(self):
         book = book_of_deeds()
         told = book.journal()
-        for word, arguments in (("put", (0, 0, 0, "=1+")), ("commit", ()), ("add_sheet", (0, "1")), ("value", (0, 0, 0)), ("probe", (0, "=1")), ("text", (0, 0, 0))):
+        for word, arguments in (("put", (0, 0, 0, "=1+")), ("commit", ()), ("add_sheet", (0, "1")),
+            ("value", (0, 0, 0)), ("probe", (0, "=1")), ("text", (0, 0, 0))):
             try:
                 getattr(book, word)(*arguments)
             except WorkError:
@@ -102,8 +113,12 @@ class Replayed(Case):
         lines = journal_of(CALLS).split("\n")[:-1]
         for at, line in enumerate(lines):
             number, check, call = line.split(" ", 2)
-            for wrong in (f"{int(number) + 1} {check} {call}", f"0{number} {check} {call}", f"{number} {int(check) + 1} {call}", f"{number} 0{check} {call}", f"{number}  {check} {call}", f"{number} {check}", "", f" {line}", f"{line} ", f"{line}x",
-                          f"{number} {check}  {call}", f"x {check} {call}", f"{number} x {call}", f"{number} {check} {call.upper() if call != call.upper() else 'x'}", f"-{line}"):
+            for wrong in (f"{int(number) + 1} {check} {call}", f"0{number} {check} {call}",
+                          f"{number} {int(check) + 1} {call}", f"{number} 0{check} {call}",
+                          f"{number}  {check} {call}",
+                          f"{number} {check}", "", f" {line}", f"{line} ", f"{line}x",
+                          f"{number} {check}  {call}", f"x {check} {call}", f"{number} x {call}",
+                          f"{number} {check} {call.upper() if call != call.upper() else 'x'}", f"-{line}"):
                 spoilt = lines[:at] + [wrong] + lines[at + 1:]
                 with self.assertRaises(BadJournal) as caught:
                     replayed("\n".join(spoilt) + "\n")
@@ -116,11 +131,25 @@ class Replayed(Case):
             self.check_bad("\n".join(lines[:at + 1] + lines[at:]) + "\n", at + 2)
 
     def test_calls_that_no_book_tells(self):
-        for call in ("put 0 0 0", "put 0 0 0 =1+", "put 0 0 00 1", "put 00 0 0 1", "put 0 0 10 1", "put 1 0 0 1", "put -1 0 0 1", "put 0 20 0 1", "put  0 0 0 1", "put 0 0 0 \u00e4", "put 0 0 0 a\tb", "put 0 +1 0 1", "put 0 0 0 " + "x" * 65, "put 0 \u0661 0 1", "Put 0 0 0 1", "put 0 1_0 0 1", "put 0 0 999999999999999999999 1",
-                     "put 0 0 " + "9" * 5000 + " 1", "define foo =1", "define Foo =1", "define FOO =A1", "define FOO", "define FOO  =1", "define A1 =1", "define  =1", "undefine FOO", "undefine", "clear 0 0 0 1", "clear 0 0 0 1 1 1", "clear 0 0 0 1 1 ", "clear 0 0 0 0 1", "copy 0 0 0 1 1 0 0", "copy 0 0 0 1 1 0 0 0 0", "cut 0 0 0 1 1 0 0 10",
-                     "fill_down 0 0 0 1", "fill_right 0 0 0 1 11", "sort_rows 0 0 0 1 1 0", "sort_rows 0 0 0 1 1 0 2", "sort_rows 0 0 0 1 1 0 True", "sort_rows 0 0 0 1 1 0 00", "sort_rows 0 0 0 1 1 1 0", "sort_rows 0 0 0 1 1 0 01", "insert_rows 0 0", "insert_rows 0 0 0", "insert_rows 0 0 1 1", "insert_columns 0 0 11", "delete_rows 0 20 1",
-                     "delete_columns 0 9 2", "add_sheet 0 foo", "add_sheet 0", "add_sheet 0 FOO 1", "add_sheet FOO 0", "add_sheet 2 FOO", "add_sheet 0 MAIN", "drop_sheet 0", "drop_sheet", "rename_sheet 0 foo", "rename_sheet 0", "move_sheet 0 1", "move_sheet 0", "undo 1", "undo ", "redo ", "begin 1", "commit", "abort", "", " ", "value 0 0 0", "probe 0 =1",
-                     "text 0 0 0", "journal", "__init__", "become", "do", "start", "put_block 0 0 0 1 1 =1", "put_block 0 0 0 2 2 1", "put_block 0 0 0 2 2", "undo\r"):
+        for call in ("put 0 0 0", "put 0 0 0 =1+", "put 0 0 00 1", "put 00 0 0 1", "put 0 0 10 1", "put 1 0 0 1",
+                     "put -1 0 0 1", "put 0 20 0 1", "put  0 0 0 1", "put 0 0 0 \u00e4", "put 0 0 0 a\tb",
+                     "put 0 +1 0 1",
+                     "put 0 0 0 " + "x" * 65, "put 0 \u0661 0 1", "Put 0 0 0 1", "put 0 1_0 0 1",
+                     "put 0 0 999999999999999999999 1",
+                     "put 0 0 " + "9" * 5000 + " 1", "define foo =1", "define Foo =1", "define FOO =A1", "define FOO",
+                     "define FOO  =1", "define A1 =1", "define  =1", "undefine FOO", "undefine", "clear 0 0 0 1",
+                     "clear 0 0 0 1 1 1", "clear 0 0 0 1 1 ", "clear 0 0 0 0 1", "copy 0 0 0 1 1 0 0",
+                     "copy 0 0 0 1 1 0 0 0 0", "cut 0 0 0 1 1 0 0 10",
+                     "fill_down 0 0 0 1", "fill_right 0 0 0 1 11", "sort_rows 0 0 0 1 1 0", "sort_rows 0 0 0 1 1 0 2",
+                     "sort_rows 0 0 0 1 1 0 True", "sort_rows 0 0 0 1 1 0 00", "sort_rows 0 0 0 1 1 1 0",
+                     "sort_rows 0 0 0 1 1 0 01", "insert_rows 0 0", "insert_rows 0 0 0", "insert_rows 0 0 1 1",
+                     "insert_columns 0 0 11", "delete_rows 0 20 1",
+                     "delete_columns 0 9 2", "add_sheet 0 foo", "add_sheet 0", "add_sheet 0 FOO 1", "add_sheet FOO 0",
+                     "add_sheet 2 FOO", "add_sheet 0 MAIN", "drop_sheet 0", "drop_sheet", "rename_sheet 0 foo",
+                     "rename_sheet 0", "move_sheet 0 1", "move_sheet 0", "undo 1", "undo ", "redo ", "begin 1",
+                     "commit", "abort", "", " ", "value 0 0 0", "probe 0 =1",
+                     "text 0 0 0", "journal", "__init__", "become", "do", "start", "put_block 0 0 0 1 1 =1",
+                     "put_block 0 0 0 2 2 1", "put_block 0 0 0 2 2", "undo\r"):
             self.check_bad(["put 0 5 5 1", call, "put 0 6 6 1"], 2)
         self.check_bad(["begin", "undo"], 2)
         self.check_bad(["begin", "begin"], 2)

@@ -142,7 +142,8 @@ class Language(unittest.TestCase):
 
     def test_attributes(self):
         allowed = "count index title find get join lower upper split strip copy add".split()
-        barred = [name for kind in (str, int, list, dict, set, bytes) for name in dir(kind)] + ["args", "mro", "format"]
+        barred = [name for kind in (str, int, list, dict, set, bytes) for name in dir(kind)] + ["args", "mro",
+            "format"]
         for where, node in nodes(ast.Attribute):
             if isinstance(node.ctx, ast.Store) and node.attr not in allowed:
                 self.assertNotIn(node.attr, barred, where)

@@ -114,7 +114,8 @@ class Inserted(Case):
             ("A20", "#REF!"), ("MAIN!A5", "MAIN!A8"), ("PLAN!A5", "PLAN!A5"), ("PLAN!A20", "PLAN!A20"),
             ("B2:C4", "B2:C4"), ("B2:C5", "B2:C8"), ("B5:C5", "B8:C8"), ("B4:C$5", "B4:C$8"), ("B4:C18", "B4:C20"),
             ("B4:C20", "B4:C20"), ("B17:C20", "B20:C20"), ("B18:C20", "#REF!"), ("B18:C18", "#REF!"),
-            ("1:4", "1:4"), ("4:5", "4:8"), ("$5:6", "$8:9"), ("5:20", "8:20"), ("17:18", "20:20"), ("18:19", "#REF!"),
+            ("1:4", "1:4"), ("4:5", "4:8"), ("$5:6", "$8:9"), ("5:20", "8:20"), ("17:18", "20:20"),
+            ("18:19", "#REF!"),
             ("PLAN!18:19", "PLAN!18:19"), ("A:B", "A:B"), ("MAIN!A:J", "MAIN!A:J"),
             ("SUM(A5,-A6,LET(X,A4,Y,A5,X+A5),LAMBDA(A5)(A5,))", "SUM(A8,-A9,LET(X,A4,Y,A8,X+A8),LAMBDA(A8)(A8,))")])
 
@@ -166,22 +167,26 @@ class Inserted(Case):
 class Deleted(Case):
     def test_rows(self):
         self.check(lambda tree: deleted(tree, 0, 0, 4, 3, True), [
-            ("A4", "A4"), ("A5", "#REF!"), ("$A$7", "#REF!"), ("A8", "A5"), ("$A$20", "$A$17"), ("PLAN!A5", "PLAN!A5"),
+            ("A4", "A4"), ("A5", "#REF!"), ("$A$7", "#REF!"), ("A8", "A5"), ("$A$20", "$A$17"),
+            ("PLAN!A5", "PLAN!A5"),
             ("A1:A4", "A1:A4"), ("A1:A5", "A1:A4"), ("A1:A7", "A1:A4"), ("A1:A8", "A1:A5"), ("A5:A7", "#REF!"),
             ("A6:A6", "#REF!"), ("A5:A8", "A5:A5"), ("A$7:B$9", "A$5:B$6"), ("A8:A9", "A5:A6"), ("A4:A$6", "A4:A$4"),
-            ("1:5", "1:4"), ("$5:6", "#REF!"), ("6:$9", "5:$6"), ("8:8", "5:5"), ("A:J", "A:J"), ("MAIN!5:5", "#REF!"),
+            ("1:5", "1:4"), ("$5:6", "#REF!"), ("6:$9", "5:$6"), ("8:8", "5:5"), ("A:J", "A:J"),
+            ("MAIN!5:5", "#REF!"),
             ("SUM(A8,-A5,A4)", "SUM(A5,-#REF!,A4)"), ("LET(X,A8,LAMBDA(Y,A9)(A10))", "LET(X,A5,LAMBDA(Y,A6)(A7))")])
 
     def test_columns(self):
         self.check(lambda tree: deleted(tree, 0, 0, 1, 2, False), [
             ("A1", "A1"), ("B1", "#REF!"), ("C1", "#REF!"), ("$D1", "$B1"), ("J20", "H20"), ("A1:B1", "A1:A1"),
-            ("B1:D1", "B1:B1"), ("B1:C9", "#REF!"), ("A:C", "A:A"), ("C:$E", "B:$C"), ("B:B", "#REF!"), ("1:20", "1:20"),
+            ("B1:D1", "B1:B1"), ("B1:C9", "#REF!"), ("A:C", "A:A"), ("C:$E", "B:$C"), ("B:B", "#REF!"),
+            ("1:20", "1:20"),
             ("PLAN!B1", "PLAN!B1")])
 
     def test_beyond_the_end(self):
         self.check(lambda tree: deleted(tree, 0, 0, 18, 20, True),
                    [("A18", "A18"), ("A19", "#REF!"), ("A20", "#REF!"), ("A1:A20", "A1:A18"), ("A19:A20", "#REF!")])
-        self.check(lambda tree: deleted(tree, 0, 0, 0, 20, True), [("A1", "#REF!"), ("1:20", "#REF!"), ("A:A", "A:A")])
+        self.check(lambda tree: deleted(tree, 0, 0, 0, 20, True),
+            [("A1", "#REF!"), ("1:20", "#REF!"), ("A:A", "A:A")])
         self.check(lambda tree: deleted(tree, 0, 0, 9, 10, False), [("I1", "I1"), ("J1", "#REF!"), ("A:J", "A:I")])
         self.assertEqual(deleted(tree=read("A5"), own=0, key=0, at=0, many=1, is_rows=True), read("A4"))
         self.assertEqual(deleted(read("MAIN!$A$5"), None, 0, 0, 1, True), read("MAIN!$A$4"))
@@ -254,7 +259,8 @@ class Carried(Case):
             ("MAIN!B2", "PLAN!C5"), ("B2", "B2"), ("C5", "#REF!"), ("PLAN!C5", "#REF!"), ("C4", "C4"),
             ("PLAN!C4", "PLAN!C4"), ("MAIN!2:3", "MAIN!2:3"), ("5:6", "5:6")]
         self.check_carried(7, 7, self.SOURCE, self.TARGET, own_of_target)
-        others = [("MAIN!B2", "PLAN!C5"), ("PLAN!C5:D6", "#REF!"), ("PLAN!C5:D7", "PLAN!C5:D7"), ("MAIN!B:B", "MAIN!B:B")]
+        others = [("MAIN!B2", "PLAN!C5"), ("PLAN!C5:D6", "#REF!"), ("PLAN!C5:D7", "PLAN!C5:D7"),
+            ("MAIN!B:B", "MAIN!B:B")]
         self.check_carried(3, 3, self.SOURCE, self.TARGET, others + [("B2", "B2"), ("C5", "C5")])
         self.check_carried(None, None, self.SOURCE, self.TARGET, others)
 
@@ -311,7 +317,8 @@ class Dropped(Case):
         self.check(lambda tree: dropped(tree, 7), [
             ("PLAN!A1", "#REF!"), ("PLAN!A1:B2", "#REF!"), ("PLAN!1:2", "#REF!"), ("PLAN!A:A", "#REF!"), ("A1", "A1"),
             ("X_1!A1", "X_1!A1"), ("SUM(PLAN!A1,A1,,MAIN!A:A)", "SUM(#REF!,A1,,MAIN!A:A)"), ("PLAN+1", "PLAN+1"),
-            ("LET(X,PLAN!A1,-PLAN!B1)", "LET(X,#REF!,-#REF!)"), ("LAMBDA(X,PLAN!A1)(PLAN!A2)", "LAMBDA(X,#REF!)(#REF!)")])
+            ("LET(X,PLAN!A1,-PLAN!B1)", "LET(X,#REF!,-#REF!)"),
+            ("LAMBDA(X,PLAN!A1)(PLAN!A2)", "LAMBDA(X,#REF!)(#REF!)")])
         tree = read("PLAN!A1+A1")
         self.assertEqual(dropped(tree, 5), tree)
         self.assertEqual(dropped(tree=tree, key=0), tree)

@@ -2,7 +2,7 @@
 
 import unittest
 
-from sheetworks.signs import LETTERS, capital, is_figure, is_letter
+from sheetworks.signs import LETTERS, capital, is_figure, is_letter, small
 
 
 class Capital(unittest.TestCase):
@@ -19,6 +19,14 @@ class Capital(unittest.TestCase):
         for text in ("\u00df", "\u00e9", "\u017f", "\u0131", "\ufb01", "\u03b1"):
             self.assertEqual(capital(text), text)
             self.assertEqual(capital("a" + text), "A" + text)
+
+
+class Small(unittest.TestCase):
+    def test_small(self):
+        self.assertEqual(small("ABCDEFGHIJKLMNOPQRSTUVWXYZ"), "abcdefghijklmnopqrstuvwxyz")
+        others = "".join([chr(k) for k in range(32, 127) if not 65 <= k <= 90])
+        self.assertEqual(small(others), others)
+        self.assertEqual((small(""), small("A\u00c4")), ("", "a\u00c4"))
 
 
 class Kinds(unittest.TestCase):

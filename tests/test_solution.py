@@ -23,8 +23,10 @@ class Circles(Case):
             self.assertEqual(book.value(0, *at(word)), wanted, word)
 
     def test_of_one_two_and_many(self):
-        book = book_of(("A1", "=A1"), ("B1", "=B2+1"), ("B2", "=B1"), ("C1", "=C2"), ("C2", "=C3"), ("C3", "=C4"), ("C4", "=C1"), ("D1", "=A1"), ("D2", "=D1+C3"))
-        self.check_values(book, A1="circle", B1="circle", B2="circle", C1="circle", C4="circle", D1="circle", D2="circle")
+        book = book_of(("A1", "=A1"), ("B1", "=B2+1"), ("B2", "=B1"), ("C1", "=C2"), ("C2", "=C3"), ("C3", "=C4"),
+            ("C4", "=C1"), ("D1", "=A1"), ("D2", "=D1+C3"))
+        self.check_values(book, A1="circle", B1="circle", B2="circle", C1="circle", C4="circle", D1="circle",
+            D2="circle")
         self.assertEqual(book.circle(0, 0, 0), places("A1 A1"))
         self.assertEqual(book.circle(0, 0, 1), places("B1 B2 B1"))
         self.assertEqual(book.circle(0, *at("C2")), places("C2 C3 C4 C1 C2"))
@@ -40,7 +42,9 @@ class Circles(Case):
         self.assertEqual(book.changed(), places("C1 C2 C3 C4"))
 
     def test_that_could_be_but_are_not(self):
-        book = book_of(("A1", "=IF(B1,A2,1)"), ("A2", "=A1+1"), ("B1", "0"), ("C1", "=CHOOSE(1,5,C1)"), ("D1", "=ROWS(D1:D5)"), ("E1", "=ISREF(E1)"), ("F1", "=INDEX(F1:F3,2)"), ("G1", "=IF(TRUE,1,G1)"), ("H1", "=LET(x,H1,3)"), ("I1", "=ROW(I1)"))
+        book = book_of(("A1", "=IF(B1,A2,1)"), ("A2", "=A1+1"), ("B1", "0"), ("C1", "=CHOOSE(1,5,C1)"),
+            ("D1", "=ROWS(D1:D5)"), ("E1", "=ISREF(E1)"), ("F1", "=INDEX(F1:F3,2)"), ("G1", "=IF(TRUE,1,G1)"),
+            ("H1", "=LET(x,H1,3)"), ("I1", "=ROW(I1)"))
         self.check_values(book, A1=1, A2=2, C1=5, D1=5, E1=("truth", True), F1=0, G1=1, H1=3, I1=1)
         book.put(0, *at("B1"), "1")
         self.check_values(book, A1="circle", A2="circle")
@@ -50,8 +54,10 @@ class Circles(Case):
         self.assertEqual(book.anew(), places("A1 A2"))
 
     def test_through_errors_are_not_met(self):
-        book = book_of(("A1", "=IFERROR(A2,1)"), ("A2", "=A1"), ("B1", "=IFERROR(B1,1)"), ("C1", "=ISERROR(A1)"), ("D1", "=COUNT(A1)"), ("E1", "=INDIRECT(\"E\"&1)"), ("F1", "=SUM(E1:F1)"), ("G1", "=IFNA(G1,1)"))
-        self.check_values(book, A1="circle", A2="circle", B1="circle", C1="circle", D1="circle", E1="circle", F1="circle", G1="circle")
+        book = book_of(("A1", "=IFERROR(A2,1)"), ("A2", "=A1"), ("B1", "=IFERROR(B1,1)"), ("C1", "=ISERROR(A1)"),
+            ("D1", "=COUNT(A1)"), ("E1", "=INDIRECT(\"E\"&1)"), ("F1", "=SUM(E1:F1)"), ("G1", "=IFNA(G1,1)"))
+        self.check_values(book, A1="circle", A2="circle", B1="circle", C1="circle", D1="circle", E1="circle",
+            F1="circle", G1="circle")
         self.assertEqual(book.circle(0, *at("F1")), places("F1 E1 E1"))
 
     def test_of_blocks(self):
@@ -135,7 +141,8 @@ class Circles(Case):
         self.assertEqual(len(book.circle(0, 0, 0)), 801)
 
     def test_the_sequence_does_not_matter(self):
-        entries = [("A1", "=B1+C1"), ("B1", "=IF(D1,C1,2)"), ("C1", "=D1*2"), ("D1", "=E1"), ("E1", "3"), ("F1", "=G1"), ("G1", "=F1+A1"), ("H1", "=IF(A1>5,1,F1)")]
+        entries = [("A1", "=B1+C1"), ("B1", "=IF(D1,C1,2)"), ("C1", "=D1*2"), ("D1", "=E1"), ("E1", "3"),
+            ("F1", "=G1"), ("G1", "=F1+A1"), ("H1", "=IF(A1>5,1,F1)")]
         told = {saved(book_of(*entries))}
         wanted = Snapshot(book_of(*entries))
         draw = random.Random(2)
@@ -235,7 +242,8 @@ class Anew(Case):
     def test_calls_that_only_ask(self):
         book = book_of(("A1", "1"), ("B1", "=A1"))
         anew, changed = book.anew(), book.changed()
-        for word, arguments in (("value", (0, 0, 0)), ("probe", (0, "=A1")), ("begin", ()), ("commit", ()), ("readers", (0, 0, 0)), ("journal", ())):
+        for word, arguments in (("value", (0, 0, 0)), ("probe", (0, "=A1")), ("begin", ()), ("commit", ()),
+            ("readers", (0, 0, 0)), ("journal", ())):
             getattr(book, word)(*arguments)
             self.assertEqual((book.anew(), book.changed()), (anew, changed))
         self.assertRaises(Exception, book.put, 9, 0, 0, "")
@@ -274,7 +282,8 @@ class Anew(Case):
             logged = Logged()
             book = Book(logged)
             before = Snapshot(book)
-            for word, text in list(entries) + [("D1", "0"), ("D1", "1"), ("C1", "4"), ("C1", "=A1"), ("B1", "=B1"), ("A1", "=B1"), ("B1", "2")]:
+            for word, text in list(entries) + [("D1", "0"), ("D1", "1"), ("C1", "4"), ("C1", "=A1"), ("B1", "=B1"),
+                ("A1", "=B1"), ("B1", "2")]:
                 logged.calls = []
                 book.put(0, *at(word), text)
                 before = check_deed(self, book, before, logged.calls, False, (entries, word, text))

@@ -11,19 +11,23 @@ from tests.test_copying import texts
 
 class Rows(Case):
     def test_inserting(self):
-        book = book_of(("A1", "1"), ("A3", "3"), ("B1", "=A3"), ("B5", "=SUM(A1:A3)+A1"), ("C1", "=A20"), ("D1", "=A18:A20"), ("E1", "=A17:A19"), ("F1", "=$2:3"))
+        book = book_of(("A1", "1"), ("A3", "3"), ("B1", "=A3"), ("B5", "=SUM(A1:A3)+A1"), ("C1", "=A20"),
+            ("D1", "=A18:A20"), ("E1", "=A17:A19"), ("F1", "=$2:3"))
         book.define("N", "=MAIN!$A$3")
         book.add_sheet(1, "P")
         book.put(1, 0, 0, "=MAIN!A3+A3")
         book.insert_rows(0, 2, 2)
-        self.assertEqual(texts(book), {"A1": "1", "A5": "3", "B1": "=A5", "B7": "=SUM(A1:A5)+A1", "C1": "=#REF!", "D1": "=A20:A20", "E1": "=A19:A20", "F1": "=$2:5"})
+        self.assertEqual(texts(book), {"A1": "1", "A5": "3", "B1": "=A5", "B7": "=SUM(A1:A5)+A1", "C1": "=#REF!",
+            "D1": "=A20:A20", "E1": "=A19:A20", "F1": "=$2:5"})
         self.assertEqual((texts(book, 1), book.definition("N")), ({"A1": "=MAIN!A5+A3"}, "=MAIN!$A$5"))
 
     def test_deleting(self):
-        book = book_of(("A1", "1"), ("A3", "3"), ("A20", "9"), ("B1", "=A3"), ("B5", "=SUM(A1:A3)+A20"), ("C1", "=A2:A4"), ("D1", "=A2:A3"))
+        book = book_of(("A1", "1"), ("A3", "3"), ("A20", "9"), ("B1", "=A3"), ("B5", "=SUM(A1:A3)+A20"),
+            ("C1", "=A2:A4"), ("D1", "=A2:A3"))
         book.define("N", "=MAIN!$A$3")
         book.delete_rows(0, 1, 2)
-        self.assertEqual(texts(book), {"A1": "1", "A18": "9", "B1": "=#REF!", "B3": "=SUM(A1:A1)+A18", "C1": "=A2:A2", "D1": "=#REF!"})
+        self.assertEqual(texts(book), {"A1": "1", "A18": "9", "B1": "=#REF!", "B3": "=SUM(A1:A1)+A18", "C1": "=A2:A2",
+            "D1": "=#REF!"})
         self.assertEqual(book.definition("N"), "=#REF!")
         book.delete_rows(0, 0, 20)
         self.assertEqual(texts(book), {})
@@ -39,16 +43,21 @@ class Rows(Case):
                 self.assertEqual(saved(book), state, (word, at))
 
     def test_columns(self):
-        book = book_of(("A1", "1"), ("C1", "3"), ("A2", "=C1"), ("E2", "=SUM(A1:C1)"), ("A3", "=J1"), ("A4", "=H1:J1"), ("A5", "=B:$C"), ("A6", "=2:3"))
+        book = book_of(("A1", "1"), ("C1", "3"), ("A2", "=C1"), ("E2", "=SUM(A1:C1)"), ("A3", "=J1"),
+            ("A4", "=H1:J1"), ("A5", "=B:$C"), ("A6", "=2:3"))
         book.insert_columns(0, 2, 2)
-        self.assertEqual(texts(book), {"A1": "1", "E1": "3", "A2": "=E1", "G2": "=SUM(A1:E1)", "A3": "=#REF!", "A4": "=J1:J1", "A5": "=B:$E", "A6": "=2:3"})
+        self.assertEqual(texts(book), {"A1": "1", "E1": "3", "A2": "=E1", "G2": "=SUM(A1:E1)", "A3": "=#REF!",
+            "A4": "=J1:J1", "A5": "=B:$E", "A6": "=2:3"})
         book.delete_columns(0, 1, 4)
-        self.assertEqual(texts(book), {"A1": "1", "A2": "=#REF!", "C2": "=SUM(A1:A1)", "A3": "=#REF!", "A4": "=F1:F1", "A5": "=#REF!", "A6": "=2:3"})
+        self.assertEqual(texts(book), {"A1": "1", "A2": "=#REF!", "C2": "=SUM(A1:A1)", "A3": "=#REF!", "A4": "=F1:F1",
+            "A5": "=#REF!", "A6": "=2:3"})
 
     def test_places(self):
         book = Book()
         for word, size in (("insert_rows", 20), ("delete_rows", 20), ("insert_columns", 10), ("delete_columns", 10)):
-            for arguments, at in (((1, 0, 1), 0), ((-1, -1, 0), 0), ((0, -1, 1), 1), ((0, size, 1), 1), ((0, size, 0), 1), ((0, 0, 0), 2), ((0, 0, -1), 2), ((0, 0, size + 1), 2), ((0, size - 1, 2), 2), ((0, 3, size - 2), 2)):
+            for arguments, at in (((1, 0, 1), 0), ((-1, -1, 0), 0), ((0, -1, 1), 1), ((0, size, 1), 1),
+                ((0, size, 0), 1), ((0, 0, 0), 2), ((0, 0, -1), 2), ((0, 0, size + 1), 2), ((0, size - 1, 2), 2),
+                ((0, 3, size - 2), 2)):
                 self.check_refused(book, word, arguments, (BadPlace, at))
             for at, many in ((0, size), (size - 1, 1), (3, size - 3), (0, 1)):
                 getattr(book, word)(0, at, many)
@@ -71,7 +80,8 @@ class Rows(Case):
 
     def test_blocks(self):
         for word, axis in (("rows", 0), ("columns", 1)):
-            for at, wanted in ((2, [4, 3]), (3, [4, 3]), (4, (BlockCut, 0, 3, 3)), (5, (BlockCut, 0, 3, 3)), (6, [3, 3]), (7, [3, 3])):
+            for at, wanted in ((2, [4, 3]), (3, [4, 3]), (4, (BlockCut, 0, 3, 3)), (5, (BlockCut, 0, 3, 3)),
+                (6, [3, 3]), (7, [3, 3])):
                 book = Book()
                 book.put_block(0, 3, 3, 3, 3, "=B2")
                 if isinstance(wanted, tuple):
@@ -81,7 +91,8 @@ class Rows(Case):
                 place = [3, 3]
                 place[axis] = wanted[0]
                 self.assertEqual(book.block_of(0, *place), (*place, 3, 3))
-            for at, many, wanted in ((0, 2, 1), (2, 1, 2), (2, 2, None), (3, 1, None), (3, 2, None), (4, 1, None), (5, 1, None), (4, 3, None), (3, 3, "gone"), (2, 5, "gone"), (6, 1, 3)):
+            for at, many, wanted in ((0, 2, 1), (2, 1, 2), (2, 2, None), (3, 1, None), (3, 2, None), (4, 1, None),
+                (5, 1, None), (4, 3, None), (3, 3, "gone"), (2, 5, "gone"), (6, 1, 3)):
                 book = Book()
                 book.put_block(0, 3, 3, 3, 3, "=B2")
                 if wanted is None:
@@ -164,7 +175,8 @@ class Sheets(Case):
         book.define("M", "=MAIN!$A$1")
         book.drop_sheet(1)
         self.assertEqual(texts(book), {"A1": "=#REF!+B1", "A2": "=SUM(#REF!)", "A3": "=INDIRECT(\"P!A1\")"})
-        self.assertEqual((book.definition("N"), book.definition("M"), book.sheets()), ("=#REF!", "=MAIN!$A$1", ((0, "MAIN"),)))
+        self.assertEqual((book.definition("N"), book.definition("M"), book.sheets()),
+            ("=#REF!", "=MAIN!$A$1", ((0, "MAIN"),)))
         self.assertEqual(book.shown(0, 2, 0), "#REF!")
         self.check_refused(book, "drop_sheet", (0,), (NoRoom, "sheets"))
         book.add_sheet(1, "P")
@@ -193,13 +205,15 @@ class Sheets(Case):
         book.put(0, 1, 0, "=INDIRECT(\"P!A1\")")
         book.put(0, 2, 0, "=INDIRECT(\"Q!A1\")")
         book.rename_sheet(1, "Q")
-        self.assertEqual((book.text(0, 0, 0), [book.shown(0, row, 0) for row in range(3)]), ("=Q!A1", ["7", "#REF!", "7"]))
+        self.assertEqual((book.text(0, 0, 0), [book.shown(0, row, 0) for row in range(3)]),
+            ("=Q!A1", ["7", "#REF!", "7"]))
         self.assertEqual((book.anew(), book.changed()), (((0, 1, 0), (0, 2, 0)), ((0, 1, 0), (0, 2, 0))))
         book.rename_sheet(1, "q")
         self.assertEqual((book.anew(), book.changed()), ((), ()))
 
     def test_moving(self):
-        for at, to, wanted in ((0, 0, "ABC"), (0, 1, "BAC"), (0, 2, "BCA"), (1, 0, "BAC"), (2, 0, "CAB"), (2, 1, "ACB"), (1, 2, "ACB"), (2, 2, "ABC")):
+        for at, to, wanted in ((0, 0, "ABC"), (0, 1, "BAC"), (0, 2, "BCA"), (1, 0, "BAC"), (2, 0, "CAB"),
+            (2, 1, "ACB"), (1, 2, "ACB"), (2, 2, "ABC")):
             book = Book()
             book.rename_sheet(0, "A")
             book.add_sheet(1, "B")
@@ -209,7 +223,8 @@ class Sheets(Case):
             self.assertEqual("".join([name for _, name in book.sheets()]), wanted)
             self.assertEqual((book.anew(), book.changed()), ((), ()))
             sheet = wanted.index("A")
-            self.assertEqual((book.text(sheet, 0, 0), book.value(sheet, 0, 0)), ("=B!A1+C!A1+INDIRECT(\"C!A1\")", number(0)))
+            self.assertEqual((book.text(sheet, 0, 0), book.value(sheet, 0, 0)),
+                ("=B!A1+C!A1+INDIRECT(\"C!A1\")", number(0)))
 
     def test_greatest_key(self):
         book = Book()

@@ -12,7 +12,8 @@ ONE = ("number", 1000000)
 class Worlds(unittest.TestCase):
     def test_answers(self):
         tree = read_formula("=MAIN!$A$1", [(0, "MAIN")])
-        world = World({(0, 0, 0): ONE, (7, 19, 9): ("text", "x"), (0, 1, 1): ("empty",)}, [(0, 0, 1), (0, 2, 2)], {"X": tree}, [(0, "MAIN"), (7, "PLAN")])
+        world = World({(0, 0, 0): ONE, (7, 19, 9): ("text", "x"), (0, 1, 1): ("empty",)}, [(0, 0, 1), (0, 2, 2)],
+            {"X": tree}, [(0, "MAIN"), (7, "PLAN")])
         self.assertEqual(world.cell(0, 0, 0), ONE)
         self.assertEqual(world.cell(key=7, row=19, column=9), ("text", "x"))
         self.assertEqual(world.cell(0, 1, 1), ("empty",))
@@ -51,8 +52,10 @@ class Worlds(unittest.TestCase):
 
     def test_in_evaluations(self):
         world = World({(0, 0, 0): ONE}, [(0, 1, 0)], {}, [(0, "MAIN")])
-        self.assertEqual(evaluated(read_formula("=A1+A3", ()), 0, world), (ONE, (("cell", 0, 0, 0), ("cell", 0, 2, 0))))
-        self.assertEqual(evaluated(read_formula("=A1+A2+A3", ()), 0, world), (None, (("cell", 0, 0, 0), ("cell", 0, 1, 0))))
+        self.assertEqual(evaluated(read_formula("=A1+A3", ()), 0, world),
+            (ONE, (("cell", 0, 0, 0), ("cell", 0, 2, 0))))
+        self.assertEqual(evaluated(read_formula("=A1+A2+A3", ()), 0, world),
+            (None, (("cell", 0, 0, 0), ("cell", 0, 1, 0))))
 
 
 if __name__ == "__main__":
