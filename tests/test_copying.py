@@ -24,6 +24,35 @@ def texts(book, sheet=0):
     return found
 
 
+def contents(book):
+    """What stands at each place: a scalar, or (tree, height, width)."""
+    found = {}
+    for sheet, (key, _) in enumerate(book.sheets()):
+        for row in range(20):
+            for column in range(10):
+                block = book.block_of(sheet, row, column) or (row, column, 1, 1)
+                text = book.text(sheet, row, column)
+                if text.startswith("=") and len(text) > 1:
+                    if block[:2] == (row, column):
+                        found[(key, row, column)] = (read_formula(text, book.sheets()), *block[2:])
+                elif text != "":
+                    found[(key, row, column)] = book.value(sheet, row, column)
+    return found
+
+
+def told(book, standing):
+    """The texts of what stands there, by cells."""
+    found = {}
+    for (key, row, column), one in standing.items():
+        if isinstance(one[0], tuple):
+            for i in range(one[1]):
+                for j in range(one[2]):
+                    found[(key, row + i, column + j)] = write_formula(one[0], book.sheets())
+        else:
+            found[(key, row, column)] = one
+    return found
+
+
 class Copying(Case):
     def test_cells(self):
         book = book_of(("A1", "1"), ("A2", "'2"), ("B1", "=A1+$A1+A$1+$A$1+MAIN!A1"), ("B2", "=J20"), ("D5", "9"),
@@ -225,39 +254,12 @@ class Sorting(Case):
 class Drawn(unittest.TestCase):
     """Drawn copies, cuts, fills and sorts, held against a working cell by cell."""
 
-    def contents(self, book):
-        """What stands at each place: a scalar, or (tree, height, width)."""
-        found = {}
-        for sheet, (key, _) in enumerate(book.sheets()):
-            for row in range(20):
-                for column in range(10):
-                    block = book.block_of(sheet, row, column) or (row, column, 1, 1)
-                    told = book.text(sheet, row, column)
-                    if told.startswith("=") and len(told) > 1:
-                        if block[:2] == (row, column):
-                            found[(key, row, column)] = (read_formula(told, book.sheets()), *block[2:])
-                    elif told != "":
-                        found[(key, row, column)] = book.value(sheet, row, column)
-        return found
-
-    def told(self, book, contents):
-        """The texts of contents, by cells."""
-        found = {}
-        for (key, row, column), one in contents.items():
-            if isinstance(one[0], tuple):
-                for i in range(one[1]):
-                    for j in range(one[2]):
-                        found[(key, row + i, column + j)] = write_formula(one[0], book.sheets())
-            else:
-                found[(key, row, column)] = one
-        return found
-
     def moved(self, one, down, right):
         return (shifted(one[0], down, right), *one[1:]) if isinstance(one[0], tuple) else one
 
     def check(self, book, word, arguments, wanted, note):
         getattr(book, word)(*arguments)
-        self.assertEqual(self.told(book, self.contents(book)), self.told(book, wanted), note)
+        self.assertEqual(told(book, contents(book)), told(book, wanted), note)
 
     def test_drawn(self):
         for seed in range(60):
@@ -281,7 +283,7 @@ class Drawn(unittest.TestCase):
         row, column, height, width = drawer.box()
         to_row, to_column = draw.randrange(6), draw.randrange(4)
         key, to_key = book.sheets()[sheet][0], book.sheets()[other][0]
-        before = self.contents(book)
+        before = contents(book)
         source = {(key, row + i, column + j): (to_key, to_row + i,
             to_column + j) for i in range(height) for j in range(width)}
         word = draw.choice(["copy", "cut", "fill_down", "fill_right", "sort_rows"])

@@ -1,12 +1,17 @@
 """Tests of [62], [67] and [68]: rows, columns and sheets."""
 
+import random
 import unittest
 
 from sheetworks.book import Book
 from sheetworks.errors import BadName, BadPlace, BlockCut, NoRoom
+from sheetworks.moves import deleted, inserted
+from sheetworks.parsing import read_formula
 from sheetworks.states import saved
-from tests.test_book import Case, book_of, number
-from tests.test_copying import texts
+from sheetworks.writing import write_formula
+from tests.drawing import Drawer
+from tests.test_book import Case, book_of, number, refusal
+from tests.test_copying import contents, texts, told
 
 
 class Rows(Case):
@@ -232,6 +237,56 @@ class Sheets(Case):
         book.add_sheet(0, "P")
         self.assertEqual(book.sheets()[0], (999999998, "P"))
         self.check_refused(book, "add_sheet", (0, "Q"), (NoRoom, "sheets"))
+
+
+class Drawn(unittest.TestCase):
+    """Drawn insertions and deletions, held against a working cell by cell."""
+
+    def test_drawn(self):
+        done = 0
+        for seed in range(40):
+            draw = random.Random(seed)
+            drawer = Drawer(draw)
+            book = Book()
+            book.add_sheet(1, "P")
+            for _ in range(25):
+                word, arguments = drawer.deed(book)
+                if word in ("put", "put_block", "define"):
+                    refusal(getattr(book, word), *arguments)
+            for _ in range(8):
+                done += self.one_deed(book, draw, seed)
+        self.assertGreater(done, 100)
+
+    def one_deed(self, book, draw, seed):
+        word = draw.choice(["insert_rows", "insert_columns", "delete_rows", "delete_columns"])
+        is_rows = word.endswith("rows")
+        sheet, at, many = draw.randrange(2), draw.randrange(7), draw.randrange(1, 4)
+        key = book.sheets()[sheet][0]
+        before = contents(book)
+        names = {name: read_formula(book.definition(name), book.sheets()) for name in book.names()}
+        if refusal(getattr(book, word), sheet, at, many) is not None:
+            return 0
+        move = inserted if word.startswith("insert") else deleted
+        wanted = {}
+        for place, one in before.items():
+            new = self.new_place(place, word, key, at, many, is_rows)
+            if new is not None:
+                is_formula = isinstance(one[0], tuple)
+                wanted[new] = (move(one[0], place[0], key, at, many, is_rows), *one[1:]) if is_formula else one
+        self.assertEqual(told(book, contents(book)), told(book, wanted), (seed, word, sheet, at, many))
+        for name, tree in names.items():
+            moved = move(tree, None, key, at, many, is_rows)
+            self.assertEqual(book.definition(name), write_formula(moved, book.sheets()), (seed, word))
+        return 1
+
+    def new_place(self, place, word, key, at, many, is_rows):
+        n = place[1] if is_rows else place[2]
+        if place[0] != key or n < at:
+            return place
+        if word.startswith("delete") and n < at + many:
+            return None
+        by = many if word.startswith("insert") else -many
+        return (key, place[1] + by, place[2]) if is_rows else (key, place[1], place[2] + by)
 
 
 if __name__ == "__main__":
